@@ -1,0 +1,1 @@
+"""Allrows: sayings about all rows of signs, decided, with papers."""

@@ -1,0 +1,55 @@
+"""Which of numbered things lead to one another."""
+
+
+def components(targets):
+    """For each number that of its class: those that lead to one another, numbered as they come first."""
+    sources = [[] for _ in targets]
+    for number, ends in enumerate(targets):
+        for end in ends:
+            sources[end].append(number)
+    class_of = {}
+    # backwards from what is finished last, nothing outside a class is left to come to
+    for number in reversed(_by_finish(targets)):
+        if number not in class_of:
+            _mark_all(sources, number, class_of)
+    return _renumbered([class_of[number] for number in range(len(targets))])
+
+
+def _mark_all(sources, begin, class_of):
+    """Put all that is come to from the beginning, and has no class yet, into its class."""
+    class_of[begin] = begin
+    waiting = [begin]
+    while waiting:
+        for number in sources[waiting.pop()]:
+            if number not in class_of:
+                class_of[number] = begin
+                waiting.append(number)
+
+
+def _by_finish(targets):
+    """The numbers, each behind all that were first come to from it."""
+    finished = []
+    met = {}
+    for begin in range(len(targets)):
+        if begin in met:
+            continue
+        met[begin] = True
+        waiting = [(begin, 0)]
+        while waiting:
+            number, at = waiting.pop()
+            if at == len(targets[number]):
+                finished.append(number)
+                continue
+            waiting.append((number, at + 1))
+            end = targets[number][at]
+            if end not in met:
+                met[end] = True
+                waiting.append((end, 0))
+    return finished
+
+
+def _renumbered(classes):
+    numbers = {}
+    for name in classes:
+        numbers.setdefault(name, len(numbers))
+    return [numbers[name] for name in classes]

@@ -1,0 +1,98 @@
+"""Counts: they add integers as a reader reads."""
+
+from allrows.errors import InvalidCount, InvalidText
+from allrows.readers import Reader, lines_of_text, marks_of_lines, reader_end, reader_of_lines
+from allrows.values import is_integer, is_integer_text, is_sequence
+
+_MOST_DIGITS = 9
+
+
+class Count:
+    """A reader, what it adds at each mark for each sign, and what is added at the end."""
+
+    def __init__(self, reader, adds, ends):
+        if not isinstance(reader, Reader):
+            raise InvalidCount("reader")
+        if not _is_adds(adds, reader):
+            raise InvalidCount("adds")
+        if not _is_integers(ends, len(reader.marks)):
+            raise InvalidCount("ends")
+        self.reader = reader
+        self.adds = tuple([tuple(added) for added in adds])
+        self.ends = tuple(ends)
+
+    @classmethod
+    def parse(cls, text):
+        lines = lines_of_text(text)
+        end = reader_end(lines)
+        if end < 3:
+            raise InvalidText(end)
+        marks = marks_of_lines(lines[:end])
+        told = []
+        for at, mark in enumerate(marks):
+            added = _added_of_line(lines[end + at], mark) if end + at < len(lines) else None
+            if added is None:
+                raise InvalidText(end + at)
+            told.append(added)
+        if end + len(marks) < len(lines):
+            raise InvalidText(end + len(marks))
+        return cls(reader_of_lines(lines[:end]), [adds for adds, ending in told], [ending for adds, ending in told])
+
+    def led(self, mark, row):
+        """The mark to which a row leads a mark, and what is added on the way."""
+        last = self.reader.led(mark, row)
+        amount = 0
+        for sign in row:
+            amount += self.adds[self.reader.number_of(mark)][self.reader.signs.index(sign)]
+            mark = self.reader.led(mark, sign)
+        return (last, amount)
+
+    def of(self, row):
+        """The amount of a whole row."""
+        mark, amount = self.led(self.reader.first, row)
+        return amount + self.ends[self.reader.number_of(mark)]
+
+    def __eq__(self, other):
+        return (
+            isinstance(other, Count)
+            and self.reader == other.reader
+            and self.adds == other.adds
+            and self.ends == other.ends
+        )
+
+    def __str__(self):
+        return "\n".join([str(self.reader), *_lines_of_adds(self)])
+
+
+def _lines_of_adds(count):
+    lines = []
+    for mark, added, end in zip(count.reader.marks, count.adds, count.ends):
+        told = " ".join([str(number) for number in added])
+        lines.append(f"add {mark}: {told} end {end}")
+    return lines
+
+
+def _is_adds(value, reader):
+    if not is_sequence(value) or len(value) != len(reader.marks):
+        return False
+    return all([_is_integers(added, len(reader.signs)) for added in value])
+
+
+def _is_integers(value, many):
+    return is_sequence(value) and len(value) == many and all([is_integer(number) for number in value])
+
+
+def _added_of_line(line, mark):
+    """The list of the integers and the one at the end that a line tells for this mark, or None."""
+    head, _, rest = line.partition(": ")
+    words = rest.split(" ")
+    if head != f"add {mark}" or len(words) < 3 or words[-2] != "end":
+        return None
+    numbers = words[:-2] + words[-1:]
+    if not all([_is_short_integer(word) for word in numbers]):
+        return None
+    return ([int(word) for word in words[:-2]], int(words[-1]))
+
+
+def _is_short_integer(text):
+    return is_integer_text(text) and len(text.removeprefix("-")) <= _MOST_DIGITS

@@ -1,0 +1,30 @@
+"""Readers whose marks are named by the least rows that lead to them."""
+
+from allrows.readers import Reader
+from allrows.values import is_name
+from allrows.walks import walked
+
+_FIRST_LETTERS = "mnopqrstuvwxyz"
+_LETTERS = "abcdefghijklmnopqrstuvwxyz"
+
+
+def mark_names(many):
+    """The first so many names of ma, mb, .., mz, na, .., zz, maa, mab, .."""
+    names = []
+    stems = list(_FIRST_LETTERS)
+    while len(names) < many:
+        stems = [stem + letter for stem in stems for letter in _LETTERS]
+        names.extend([stem for stem in stems if is_name(stem)])
+    return names[:many]
+
+
+def named_reader(signs, begin, lead):
+    """The reader with a mark for each thing that is come to, and the list of these things.
+
+    lead(thing, at) is where the sign with the number at leads a thing.
+    """
+    things = [thing for thing, row in walked(signs, begin, lead)]
+    names = mark_names(len(things))
+    name_of = dict(zip(things, names))
+    steps = [[name_of[lead(thing, at)] for at in range(len(signs))] for thing in things]
+    return (Reader(signs, names, names[0], steps), things)

@@ -1,0 +1,59 @@
+"""What can be asked of any value: whether it is an integer, a row, a name and the like."""
+
+_NO_NAMES = ("back", "is", "not", "and", "or", "if", "then", "for", "all", "some")
+
+
+def is_integer(value):
+    return isinstance(value, int) and not isinstance(value, bool)
+
+
+def is_sequence(value):
+    return isinstance(value, (list, tuple))
+
+
+def is_tuple_of(value, many):
+    """Whether a value is a tuple of so many things (a pair, a triple)."""
+    return isinstance(value, tuple) and len(value) == many
+
+
+def is_letters(value):
+    """Whether a value is a row of whatever signs."""
+    return isinstance(value, str) and all(["a" <= sign <= "z" for sign in value])
+
+
+def is_signs(value):
+    if not is_letters(value) or len(value) < 1 or len(value) > 3:
+        return False
+    return all([one < other for one, other in zip(value, value[1:])])
+
+
+def is_row(value, signs):
+    return isinstance(value, str) and all([sign in signs for sign in value])
+
+
+def is_rows(value, signs):
+    """Whether a value is a sequence of rows of these signs."""
+    return is_sequence(value) and all([is_row(row, signs) for row in value])
+
+
+def is_name(value):
+    return is_letters(value) and 2 <= len(value) <= 6 and value not in _NO_NAMES
+
+
+def row_order(row):
+    """The key by which a lesser row stands ahead of a greater one."""
+    return (len(row), row)
+
+
+def is_digits(text):
+    """Whether a text is a number without leading zeros."""
+    if text == "" or not all(["0" <= digit <= "9" for digit in text]):
+        return False
+    return text == "0" or text[0] != "0"
+
+
+def is_integer_text(text):
+    """Whether a text is an integer without leading zeros, and not -0."""
+    if text.startswith("-"):
+        return text != "-0" and is_digits(text[1:])
+    return is_digits(text)
