@@ -54,7 +54,7 @@ def _told_homes(reader):
     lead = _act_lead(table)
     found = [numbers for numbers, row in walked(reader.signs, tuple(range(len(table))), lead)]
     places = {numbers: at for at, numbers in enumerate(found)}
-    targets = [[places[lead(numbers, at)] for at in range(len(reader.signs))] for numbers in found]
+    targets = [[places[lead(numbers, sign)] for sign in range(len(reader.signs))] for numbers in found]
     home_of = components(targets)
     members = [[] for _ in range(max(home_of) + 1)]
     is_last = [True for _ in members]

@@ -1,4 +1,4 @@
-"""Which of numbered things lead to one another."""
+"""Classes of things: equal ones, and numbered ones that lead to one another."""
 
 
 def components(targets):
@@ -12,7 +12,7 @@ def components(targets):
     for number in reversed(_by_finish(targets)):
         if number not in class_of:
             _mark_all(sources, number, class_of)
-    return _renumbered([class_of[number] for number in range(len(targets))])
+    return numbered([class_of[number] for number in range(len(targets))])
 
 
 def _mark_all(sources, begin, class_of):
@@ -20,10 +20,11 @@ def _mark_all(sources, begin, class_of):
     class_of[begin] = begin
     waiting = [begin]
     while waiting:
-        for number in sources[waiting.pop()]:
-            if number not in class_of:
-                class_of[number] = begin
-                waiting.append(number)
+        number = waiting.pop()
+        for source in sources[number]:
+            if source not in class_of:
+                class_of[source] = begin
+                waiting.append(source)
 
 
 def _by_finish(targets):
@@ -48,8 +49,9 @@ def _by_finish(targets):
     return finished
 
 
-def _renumbered(classes):
+def numbered(things):
+    """For each thing the number that equal ones have, in the order in which they come first."""
     numbers = {}
-    for name in classes:
-        numbers.setdefault(name, len(numbers))
-    return [numbers[name] for name in classes]
+    for thing in things:
+        numbers.setdefault(thing, len(numbers))
+    return [numbers[thing] for thing in things]

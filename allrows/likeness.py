@@ -1,5 +1,6 @@
 """Which marks and readers are alike, and readers made of readers."""
 
+from allrows.components import numbered
 from allrows.errors import InvalidWord, NoMark
 from allrows.lots import check_lot, check_lots, check_signs, flags_of
 from allrows.naming import named_reader
@@ -47,22 +48,14 @@ def merged(reader, lot):
 def _groups(reader, lot):
     """For each mark the number of its class."""
     table = table_of(reader)
-    groups = _numbered(flags_of(reader, lot))
+    groups = numbered(flags_of(reader, lot))
     while True:
-        finer = _numbered([
+        finer = numbered([
             (group, tuple([groups[number] for number in targets])) for group, targets in zip(groups, table)
         ])
         if max(finer) == max(groups):
             return finer
         groups = finer
-
-
-def _numbered(things):
-    """For each thing the number that equal ones have, in the order in which they come first."""
-    numbers = {}
-    for thing in things:
-        numbers.setdefault(thing, len(numbers))
-    return [numbers[thing] for thing in things]
 
 
 def is_same(one, lot, other, others):

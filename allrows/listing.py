@@ -1,9 +1,8 @@
 """The rows that are read into a lot, in their order."""
 
-from allrows.errors import InvalidRow
 from allrows.lots import check_lot, flags_of
 from allrows.readers import table_of
-from allrows.values import is_row, is_rows, is_tuple_of
+from allrows.values import is_rows, is_tuple_of
 from allrows.walks import least_way
 
 
@@ -53,8 +52,6 @@ def _row_of_length(reader, table, ways, number):
 def place_of(reader, lot, row):
     """The number of a row among those that are read into the lot, None if it is not read into it."""
     check_lot(reader, lot)
-    if not is_row(row, reader.signs):
-        raise InvalidRow()
     if reader.read(row) not in lot:
         return None
     table = table_of(reader)

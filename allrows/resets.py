@@ -62,7 +62,8 @@ def _lasting_numbers(reader):
                 sources[(min(target, other_target), max(target, other_target))].append((one, other))
     ends = {pair: True for pair in met}
     while met:
-        for pair in sources[met.pop()]:
+        target_pair = met.pop()
+        for pair in sources[target_pair]:
             if pair not in ends:
                 ends[pair] = True
                 met.append(pair)

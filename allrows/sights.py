@@ -76,8 +76,6 @@ def _point_lead(sight):
 
 def row_with(sight, point):
     """The least row with a point, None if no row has it."""
-    if not _is_point(sight, point):
-        return None
 
     def is_it(other):
         return other == point

@@ -30,7 +30,7 @@ LAZY = ("zip", "enumerate", "reversed", "range")
 VIEWS = ("items", "keys", "values")
 NO_NODES = (ast.GeneratorExp, ast.SetComp, ast.Set, ast.AsyncFunctionDef, ast.AsyncFor, ast.AsyncWith, ast.Await, ast.Global, ast.Nonlocal, ast.Import,
             ast.Yield, ast.YieldFrom, ast.Delete, ast.With, ast.Match, ast.NamedExpr, ast.AnnAssign, ast.Lambda, ast.Div, ast.MatMult, ast.Assert)
-FUNCTIONS = (ast.FunctionDef, ast.Lambda)
+COMPREHENSIONS = (ast.ListComp, ast.DictComp)
 
 
 class Checker:
@@ -52,7 +52,8 @@ class Checker:
             self.check_node(node)
             for kind, check in ((ast.FunctionDef, self.check_function), (ast.ClassDef, self.check_class), (ast.Call, self.check_call),
                                 (ast.Constant, self.check_constant), (ast.Compare, self.check_compare), (ast.Try, self.check_try),
-                                (ast.Raise, self.check_raise), (ast.Attribute, self.check_attribute)):
+                                (ast.Raise, self.check_raise), (ast.Attribute, self.check_attribute),
+                                (COMPREHENSIONS, self.check_comprehension)):
                 if isinstance(node, kind):
                     check(node)
         self.check_names()
@@ -199,6 +200,22 @@ class Checker:
             self.breach("L26", node, node.attr)
         if node.attr.startswith("__"):
             self.breach("L8", node, node.attr)
+
+    def check_comprehension(self, node):
+        """In a nested function or another comprehension its variables are not names that are assigned further out."""
+        own = {one.id for part in node.generators for one in ast.walk(part.target) if isinstance(one, ast.Name)}
+        further, around = [], self.parents[node]
+        while around is not self.tree:
+            if isinstance(around, (ast.FunctionDef, *COMPREHENSIONS)):
+                further.append(around)
+            around = self.parents[around]
+        if len(further) < 2:
+            return
+        for one in further:
+            assigned = {name.id for name in ast.walk(one) if isinstance(name, ast.Name) and isinstance(name.ctx, ast.Store)
+                        and not any(name in ast.walk(part.target) for part in node.generators)}
+            if own & assigned:
+                self.breach("L7", node, f"{own & assigned} are assigned further out")
 
     def check_names(self):
         classes_and_imports = [one.name for one in self.tree.body if isinstance(one, ast.ClassDef)]

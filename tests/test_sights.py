@@ -244,6 +244,12 @@ class TermsTest(Checks, unittest.TestCase):
         self.assertEqual(sight.parts, ((EVEN, None, False), (EVEN, None, True), (EVEN, SWAP, False), (END, None, False)))
         self.assertEqual(seen([(END, Term.of_row("a")), (EVEN, term)], "zz", "ab").parts, ((END, None, False),))
 
+    def test_rows_that_look_like_names(self):
+        reader = Reader("x", ["aa", "bb"], "aa", [["bb"], ["aa"]])
+        term = Term.parse("x", "'xx' + back yy")
+        self.assertEqual(seen([(reader, term)], "xx", "x").parts, ((reader, None, False),))
+        self.assertEqual(seen([(reader, term), (reader, Term.parse("x", "'xx' + back xx"))], "xx", "x").parts, ((reader, None, True),))
+
     def test_term_led(self):
         chance = random.Random(82)
         for signs, askings in self.askings(83, 100):

@@ -128,6 +128,13 @@ class DeedsTest(Checks, unittest.TestCase):
         self.assertEqual(str(twice.put("xx", Term.of_row("b"))), "'bab'")
         self.assertEqual(twice.put("xx", Term([])).parts, (("row", "a"),))
 
+    def test_rows_that_look_like_names(self):
+        term = Term.parse("x", "'xx' + xx + 'xx'")
+        self.assertEqual(term.names, ("xx",))
+        self.assertEqual(str(term.put("xx", Term.of_row("x"))), "'xxxxx'")
+        self.assertEqual(term.spelled({"xx": "xxx"}), "x" * 7)
+        self.assertEqual(str(Term.of_row("xx").put("xx", Term.of_name("yy"))), "'xx'")
+
     def test_counted(self):
         for term, rows in zip(self.terms, self.rows):
             tallies = {name: tally(row, "ab") for name, row in rows.items()}
@@ -179,7 +186,7 @@ class TextTest(Checks, unittest.TestCase):
     def test_wrong_parts(self):
         wrong = ["", " ", "'", "'a", "a'", "'c'", "'A'", "''a", "'a''", "\"a\"", "xx ", " xx", "back", "back ", "back 'a'", "back  xx", "xx yy",
                  "back back xx", "[a,b]", "[a,b]xx", "[a,b](xx", "[a,b] (xx)", "[a](xx)", "[a,b,a](xx)", "[a,c](xx)", "[a,b]('a')", "[a,b](back xx)",
-                 "[a,b](back)", "[a,b]()", "(xx)", "xx)", "[a,b](xx))", "[a,b](xx)x", "xx+yy", "xx +", "+ xx", "+", "Xx", "x", "abcdefg", "xx\n",
+                 "[a,b](back)", "[a,b]()", "(xx)", "xx)", "[a,b](xx))", "[a,b](xx)x", "[a,b](xxx", "[a,b](xx]", "xx+yy", "xx +", "+ xx", "+", "Xx", "x", "abcdefg", "xx\n",
                  "back.xx", "Back xx", "back[a,b](xx)", "[b,a]([b,a](xx))", "back [a](xx)"]
         wrong += list(NAMES_THAT_ARE_NONE) + [f"back {name}" for name in NAMES_THAT_ARE_NONE] + [f"[b,a]({name})" for name in NAMES_THAT_ARE_NONE]
         for text in wrong:
