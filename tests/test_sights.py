@@ -189,6 +189,23 @@ class LengthsTest(Checks, unittest.TestCase):
         self.assertEqual(sum(many(BOTH, point, 200) for point, _ in BOTH.points()), 2 ** 200)
         self.assertEqual((many(BOTH, BOTH.begin(), 0), many(BOTH, BOTH.begin(), 1)), (1, 0))
 
+    def test_great_sights(self):
+        turning = Reader("abc", ["aa", "bb", "cc", "dd"], "aa",
+                         [["bb", "bb", "bb"], ["cc", "aa", "bb"], ["dd", "cc", "cc"], ["aa", "dd", "dd"]])
+        sight = Sight("abc", [(turning, None, False)])
+        self.assertEqual(len(sight.points()), 256)
+        ways = {sight.begin(): 1}
+        for _ in range(200):
+            longer = {}
+            for point, number in ways.items():
+                for sign in "abc":
+                    following = sight.step(point, sign)
+                    longer[following] = longer.get(following, 0) + number
+            ways = longer
+        self.assertEqual(sum(ways.values()), 3 ** 200)
+        for row in ("", "a", "abcabc", "c" * 60):
+            self.assertEqual(many(sight, sight.point_of(row), 200), ways.get(sight.point_of(row), 0))
+
     def test_points_that_no_row_has(self):
         point = (("od", "ev"), ("no", "yes"))
         self.assertEqual([many(BOTH, point, length) for length in (0, 1, 200)], [0, 0, 0])
