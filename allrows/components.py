@@ -55,3 +55,18 @@ def numbered(things):
     for thing in things:
         numbers.setdefault(thing, len(numbers))
     return [numbers[thing] for thing in things]
+
+
+def alike_numbers(table, things):
+    """For each number that of its class, as they come first: those that all rows lead to equal things.
+
+    The table has for each number those to which the signs lead it.
+    """
+    groups = numbered(things)
+    while True:
+        finer = numbered([
+            (group, tuple([groups[target] for target in targets])) for group, targets in zip(groups, table)
+        ])
+        if max(finer) == max(groups):
+            return finer
+        groups = finer

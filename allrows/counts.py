@@ -24,19 +24,10 @@ class Count:
     @classmethod
     def parse(cls, text):
         lines = lines_of_text(text)
-        end = reader_end(lines)
-        if end < 3:
-            raise InvalidText(end)
-        marks = marks_of_lines(lines[:end])
-        told = []
-        for at, mark in enumerate(marks):
-            added = _added_of_line(lines[end + at], mark) if end + at < len(lines) else None
-            if added is None:
-                raise InvalidText(end + at)
-            told.append(added)
-        if end + len(marks) < len(lines):
-            raise InvalidText(end + len(marks))
-        return cls(reader_of_lines(lines[:end]), [adds for adds, ending in told], [ending for adds, ending in told])
+        wrong = wrong_count_line(lines)
+        if wrong is not None:
+            raise InvalidText(wrong)
+        return count_of_lines(lines)
 
     def led(self, mark, row):
         """The mark to which a row leads a mark, and what is added on the way."""
@@ -62,6 +53,26 @@ class Count:
 
     def __str__(self):
         return "\n".join([str(self.reader), *_lines_of_adds(self)])
+
+
+def wrong_count_line(lines):
+    """The number of the first line that cannot stand where it does in a count's text, or of the first missing one."""
+    end = reader_end(lines)
+    if end < 3:
+        return end
+    marks = marks_of_lines(lines[:end])
+    for at, mark in enumerate(marks, start=end):
+        if at == len(lines) or _added_of_line(lines[at], mark) is None:
+            return at
+    return None if end + len(marks) == len(lines) else end + len(marks)
+
+
+def count_of_lines(lines):
+    """The count that lines tell, none of which is wrong."""
+    end = reader_end(lines)
+    reader = reader_of_lines(lines[:end])
+    told = [_added_of_line(line, mark) for line, mark in zip(lines[end:], reader.marks)]
+    return Count(reader, [added for added, ending in told], [ending for added, ending in told])
 
 
 def _lines_of_adds(count):

@@ -1,6 +1,6 @@
 """Which marks and readers are alike, and readers made of readers."""
 
-from allrows.components import numbered
+from allrows.components import alike_numbers
 from allrows.errors import InvalidWord, NoMark
 from allrows.lots import check_lot, check_lots, check_signs, flags_of
 from allrows.naming import named_reader
@@ -47,15 +47,7 @@ def merged(reader, lot):
 
 def _groups(reader, lot):
     """For each mark the number of its class."""
-    table = table_of(reader)
-    groups = numbered(flags_of(reader, lot))
-    while True:
-        finer = numbered([
-            (group, tuple([groups[number] for number in targets])) for group, targets in zip(groups, table)
-        ])
-        if max(finer) == max(groups):
-            return finer
-        groups = finer
+    return alike_numbers(table_of(reader), flags_of(reader, lot))
 
 
 def is_same(one, lot, other, others):

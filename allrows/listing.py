@@ -1,8 +1,10 @@
 """The rows that are read into a lot, in their order."""
 
+from allrows.errors import InvalidRow
 from allrows.lots import check_lot, flags_of
 from allrows.readers import table_of
-from allrows.values import is_rows, is_tuple_of
+from allrows.tables import longest_from, number_of_row, row_numbered, ways_by_length
+from allrows.values import is_row, is_rows, is_tuple_of
 from allrows.walks import least_way
 
 
@@ -15,90 +17,30 @@ def least_row(reader, lot):
 def how_many(reader, lot, length):
     """How many rows of this length are read into the lot."""
     check_lot(reader, lot)
-    return _ways_by_length(reader, lot, length)[length][reader.number_of(reader.first)]
+    ways = ways_by_length(table_of(reader), flags_of(reader, lot), length)
+    return ways[length][reader.number_of(reader.first)]
 
 
 def row_at(reader, lot, number):
     """The row with this number among those that are read into the lot, None if there are not so many."""
     check_lot(reader, lot)
-    table = table_of(reader)
     first = reader.number_of(reader.first)
-    last = _longest(reader, lot)
-    ways = _ways_by_length(reader, lot, 0)
-    while last is not None:
-        if number < ways[-1][first]:
-            return _row_of_length(reader, table, ways, number)
-        if last == len(ways) - 1:
-            return None
-        number -= ways[-1][first]
-        ways.append(_ways_ahead(table, ways[-1]))
-    return None
-
-
-def _row_of_length(reader, table, ways, number):
-    """The row with this number among those with one sign less than there are ways."""
-    at = reader.number_of(reader.first)
-    row = ""
-    for left in reversed(range(len(ways) - 1)):
-        for sign, target in zip(reader.signs, table[at]):
-            if number < ways[left][target]:
-                row += sign
-                at = target
-                break
-            number -= ways[left][target]
-    return row
+    return row_numbered(reader.signs, table_of(reader), first, flags_of(reader, lot), number)
 
 
 def place_of(reader, lot, row):
     """The number of a row among those that are read into the lot, None if it is not read into it."""
     check_lot(reader, lot)
-    if reader.read(row) not in lot:
-        return None
-    table = table_of(reader)
-    ways = _ways_by_length(reader, lot, len(row))
-    at = reader.number_of(reader.first)
-    number = sum([ways[length][at] for length in range(len(row))])
-    for place, sign in enumerate(row):
-        place_of_sign = reader.signs.index(sign)
-        number += sum([ways[len(row) - place - 1][target] for target in table[at][:place_of_sign]])
-        at = table[at][place_of_sign]
-    return number
-
-
-def _ways_by_length(reader, lot, length):
-    """For each length up to this one how many rows lead each mark into the lot."""
-    table = table_of(reader)
-    ways = [[int(flag) for flag in flags_of(reader, lot)]]
-    for _ in range(length):
-        ways.append(_ways_ahead(table, ways[-1]))
-    return ways
-
-
-def _ways_ahead(table, ways):
-    """How many rows lead each mark into the lot, told by how many with a sign less do."""
-    return [sum([ways[target] for target in targets]) for targets in table]
+    if not is_row(row, reader.signs):
+        raise InvalidRow()
+    first = reader.number_of(reader.first)
+    return number_of_row(reader.signs, table_of(reader), first, flags_of(reader, lot), row)
 
 
 def longest(reader, lot):
     """The greatest length of a row that is read into the lot, None if there is no row, or "endless"."""
     check_lot(reader, lot)
-    return _longest(reader, lot)
-
-
-def _longest(reader, lot):
-    table = table_of(reader)
-    flags = flags_of(reader, lot)
-    marks = [reader.number_of(reader.first)]
-    most = None
-    # rows of at least as many signs as there are marks come to a mark twice: one of them is shorter than
-    # twice as many signs, if there is one at all
-    for length in range(2 * len(table)):
-        if any([flags[mark] for mark in marks]):
-            most = length
-        marks = sorted(set([target for mark in marks for target in table[mark]]))
-    if most is not None and most >= len(table):
-        return "endless"
-    return most
+    return longest_from(table_of(reader), reader.number_of(reader.first), flags_of(reader, lot))
 
 
 def ring_of(reader, lot):

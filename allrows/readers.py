@@ -27,9 +27,9 @@ class Reader:
     @classmethod
     def parse(cls, text):
         lines = lines_of_text(text)
-        end = reader_end(lines)
-        if end < 3 or end < len(lines):
-            raise InvalidText(end)
+        wrong = wrong_reader_line(lines)
+        if wrong is not None:
+            raise InvalidText(wrong)
         return reader_of_lines(lines)
 
     def led(self, mark, row):
@@ -95,13 +95,21 @@ def lines_of_text(text):
 def reader_end(lines):
     """How many lines from the first one on can be those of a reader."""
     for at, line in enumerate(lines):
-        if at == 0 and not _is_told(line, "reader"):
+        if at == 0 and not is_told(line, "reader"):
             return at
-        if at == 1 and not _is_told(line, "first"):
+        if at == 1 and not is_told(line, "first"):
             return at
         if at > 1 and _targets_of_line(line) is None:
             return at
     return len(lines)
+
+
+def wrong_reader_line(lines):
+    """The number of the first line that cannot stand where it does in a reader's text, or of the first missing one."""
+    end = reader_end(lines)
+    if end < 3 or end < len(lines):
+        return end
+    return None
 
 
 def reader_of_lines(lines):
@@ -117,7 +125,8 @@ def marks_of_lines(lines):
     return [_targets_of_line(line)[0] for line in lines[2:]]
 
 
-def _is_told(line, word):
+def is_told(line, word):
+    """Whether a line is this word and any other one."""
     words = line.split(" ")
     return len(words) == 2 and words[0] == word and words[1] != ""
 

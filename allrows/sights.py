@@ -85,7 +85,7 @@ def row_with(sight, point):
 
 def lot_closed(sight, value):
     """Whether any value is a tuple of points with the first one, and with each one those of all signs."""
-    if not isinstance(value, tuple) or not all([_is_point(sight, point) for point in value]):
+    if not isinstance(value, tuple) or not all([is_point(sight, point) for point in value]):
         return False
     told = {point: True for point in value}
     if sight.begin() not in told:
@@ -93,7 +93,7 @@ def lot_closed(sight, value):
     return all([sight.step(point, sign) in told for point in told for sign in sight.signs])
 
 
-def _is_point(sight, value):
+def is_point(sight, value):
     if not is_tuple_of(value, len(sight)):
         return False
     return all([_is_act(part[0], one) for part, one in zip(sight.parts, value)])
@@ -105,10 +105,8 @@ def _is_act(reader, value):
 
 def many(sight, point, length):
     """How many rows of this length have a point."""
-    numbers, table = _table_of(sight)
-    if point not in numbers:
-        return 0
-    ways = [int(number == numbers[point]) for number in range(len(table))]
+    pairs, table = numbered_points(sight)
+    ways = [int(other == point) for other, row in pairs]
     for _ in range(length):
         ways = [sum([ways[target] for target in targets]) for targets in table]
     return ways[0]
@@ -116,23 +114,23 @@ def many(sight, point, length):
 
 def rounds(sight):
     """The least numbers (tail, ring) with which rows of tail + ring signs have the points of those of tail signs."""
-    lots, tail = _lots_by_length(_table_of(sight)[1])
+    lots, tail = _lots_by_length(numbered_points(sight)[1])
     return (tail, len(lots) - tail)
 
 
 def lengths(sight, point):
     """The lengths below tail, and those from tail to tail + ring - 1, at which some row has the point."""
-    numbers, table = _table_of(sight)
+    pairs, table = numbered_points(sight)
     lots, tail = _lots_by_length(table)
-    found = [length for length, lot in enumerate(lots) if numbers.get(point) in lot]
+    found = [length for length, lot in enumerate(lots) if point in [pairs[number][0] for number in lot]]
     return (tuple([length for length in found if length < tail]), tuple([length for length in found if length >= tail]))
 
 
-def _table_of(sight):
-    """The numbers of all points that rows have, and for each number where the signs lead it."""
-    points = [point for point, row in sight.points()]
-    numbers = {point: number for number, point in enumerate(points)}
-    return (numbers, [[numbers[sight.step(point, sign)] for sign in sight.signs] for point in points])
+def numbered_points(sight):
+    """The pairs of all points that rows have and their least rows, and for each the numbers of those signs lead to."""
+    pairs = sight.points()
+    numbers = {point: number for number, (point, row) in enumerate(pairs)}
+    return (pairs, [[numbers[sight.step(point, sign)] for sign in sight.signs] for point, row in pairs])
 
 
 def _lots_by_length(table):

@@ -18,8 +18,6 @@ lower lstrip partition pop remove replace reverse rfind rjust rpartition rsplit 
 zfill bit_length removeprefix removesuffix rindex""".split())
 NOT_ATTRIBUTES = set("""items keys values pop update append clear extend insert remove reverse setdefault sort args encode decode hex fromhex format
 format_map mro""".split())
-# what is asked of things that later modules of the document's interface make
-METHODS_OF_OTHERS = {"count_of"}
 BARRED_NAMES = set("""register mro elements open input law version_info with_traceback add_note attrgetter breakpoint builtins compile copyright credits
 delattr dir eval exec exit gc getattr globals hasattr help id importlib license locals methodcaller os quit setattr super type vars sys""".split())
 BARRED_WORDS = """type typing typing_extensions enum Enum IntEnum StrEnum Flag IntFlag Generic Protocol ABC ABCMeta namedtuple NamedTuple TypedDict
@@ -120,7 +118,7 @@ class Checker:
         given = node.args
         if given.vararg or given.kwarg or given.kwonlyargs or given.posonlyargs:
             self.breach("L4", node, "parameters")
-        if not all(isinstance(one, ast.Constant) for one in given.defaults):
+        if not all(isinstance(one, (ast.Constant, ast.Tuple, ast.Load)) for default in given.defaults for one in ast.walk(default)):
             self.breach("L4", node, "a default value")
         if node.name in ("__eq__", "__str__", "__len__"):
             if not isinstance(node.body[-1], ast.Return):
@@ -150,7 +148,7 @@ class Checker:
         if isinstance(called, ast.Attribute):
             if called.attr in VIEWS and not self.is_iterated(node):
                 self.breach("L23", node, called.attr)
-            if called.attr not in METHODS | METHODS_OF_OTHERS | self.all_methods:
+            if called.attr not in METHODS | self.all_methods:
                 self.breach("L25", node, called.attr)
             if called.attr in METHODS and node.keywords:
                 self.breach("L25", node, "a keyword")

@@ -24,6 +24,22 @@ FUNCTIONS = {
     "sights": ["row_with(sight, point)", "lot_closed(sight, value)", "many(sight, point, length)", "rounds(sight)", "lengths(sight, point)",
                "told_apart(sight, row, other)", "seen(askings, name, signs)", "term_led(reader, mark, term, sights, points)"],
     "sums": ["worth(house, total, rows)"],
+    "deciding": ["true_at(saying, rows)", "holds(saying)", "fails(saying)", "agree(one, other)", "sight_of(saying, name)",
+                 "truth(saying, sights, points)"],
+    "trees": ["tree_for(saying)", "tree_against(saying)", "tree_for_holds(saying, value)", "tree_against_holds(saying, value)"],
+    "heights": ["most(total, saying)", "least(total, saying)", "best_rows(total, saying)", "clear(total, saying)", "is_constant(total, saying)",
+                "same_worth(one, other, saying)", "at_most(total, saying, bound)", "heights(total, saying, bound)",
+                "heights_hold(total, saying, bound, value)"],
+    "slopes": ["rate(total, saying)", "slopes(total, saying, slope)", "slopes_hold(total, saying, slope, value)", "ring(total, saying)",
+               "ring_holds(total, saying, value)", "rows_above(total, saying, bound)"],
+    "conditions": ["both(one, other)", "either(one, other)", "rest(one, other)", "contrary(condition)", "every(signs)", "only(signs, rows)"],
+    "rowsets": ["least_let(condition)", "is_endless(condition)", "many(condition, length)", "kth(condition, number)", "place(condition, row)",
+                "parting(one, other)", "within_paper(one, other)", "within_holds(one, other, value)"],
+    "leading": ["turned(condition)", "joined(one, other)", "ahead(condition, row)", "before(condition, change)", "after(condition, change)"],
+    "wheres": ["where(saying, name)", "some_where(saying, name)", "clash(house, condition, names)", "decides(house, condition, names)",
+               "deciders(house, condition)", "told_as(house, condition, names, name)"],
+    "halves": ["halves(one, other)", "is_half(one, other, condition)", "broken(one, other)", "is_only(one, other)", "loose_rows(one, other)",
+               "fewest_half(one, other)"],
 }
 
 CLASSES = {
@@ -40,9 +56,16 @@ CLASSES = {
                           "__eq__(self, other)", "__str__(self)"],
     ("sums", "Sum"): ["__init__(self, parts, number=0)", "scaled(self, factor)", "put(self, name, term)", "parse(signs, text)",
                       "__add__(self, other)", "__eq__(self, other)", "__str__(self)"],
+    ("houses", "House"): ["__init__(self, signs, readers, counts=())", "reader_of(self, name)", "count_of(self, name)", "having(self, name, thing)",
+                          "without(self, name)", "term(self, text)", "parse(text)", "__eq__(self, other)", "__str__(self)"],
+    ("sayings", "Saying"): ["__init__(self, house, form)", "put(self, name, term)", "negated(self)", "parse(house, text)", "__eq__(self, other)",
+                            "__str__(self)"],
+    ("conditions", "Condition"): ["__init__(self, signs, steps, good)", "lets(self, row)", "within(self, other)", "parse(text)", "__len__(self)",
+                                  "__eq__(self, other)", "__str__(self)"],
 }
 
-PROPERTIES = {("changes", "Change"): ["is_plain", "is_void"], ("terms", "Term"): ["names"], ("sums", "Sum"): ["names"]}
+PROPERTIES = {("changes", "Change"): ["is_plain", "is_void"], ("terms", "Term"): ["names"], ("sums", "Sum"): ["names"],
+              ("houses", "House"): ["names"], ("sayings", "Saying"): ["names"]}
 
 
 def told(name, thing):

@@ -5,15 +5,16 @@ import unittest
 
 from allrows.counts import Count
 from allrows.errors import InvalidSum, InvalidText, NoName
+from allrows.houses import House
 from allrows.readers import Reader
 from allrows.sums import Sum, worth
 from allrows.terms import Term
-from support import END, EVEN, Checks, Counts, any_values, random_term, rows_to
+from support import END, EVEN, Checks, any_values, random_house, random_term, rows_to
 
 FLAT = Reader("ab", ["go"], "go", [["go", "go"]])
 SIZE = Count(FLAT, [[1, 1]], [0])
 PEAK = Count(END, [[0, 0], [0, 1]], [0, 5])
-HOUSE = Counts({"size": SIZE, "peak": PEAK})
+HOUSE = House("ab", [("even", EVEN)], [("size", SIZE), ("peak", PEAK)])
 ROW, TWO = Term.of_name("row"), Term.of_name("two")
 
 
@@ -124,7 +125,7 @@ class WorthTest(Checks, unittest.TestCase):
             rows = {name: chance.choice(rows_to("ab", 4)) for name in ("xx", "yy", "zz")}
             told = total.number
             for factor, name, term in total.parts:
-                told += factor * HOUSE.count_of(name).of(term.spelled(rows))
+                told += factor * {"size": SIZE, "peak": PEAK}[name].of(term.spelled(rows))
             self.check_same(worth(HOUSE, total, rows), told)
         self.check_same(worth(house=HOUSE, total=Sum([]), rows={}), 0)
         self.assertEqual(worth(HOUSE, Sum.parse("ab", "2 * peak(row + two) + -1 * size(row) + 7"), {"row": "aba", "two": "ba"}), 2 * (2 + 5) - 3 + 7)
@@ -140,7 +141,27 @@ class WorthTest(Checks, unittest.TestCase):
     def test_no_count(self):
         total = Sum.parse("ab", "1 * size(row) + 1 * zz(row) + 1 * aa(row)")
         self.check_error(NoName, lambda: worth(HOUSE, total, {"row": ""}), name="zz")
-        self.check_error(NoName, lambda: worth(Counts({}), total, {"row": ""}), name="size")
+        self.check_error(NoName, lambda: worth(House("ab", []), total, {"row": ""}), name="size")
+        self.check_error(NoName, lambda: worth(house=HOUSE.without("size"), total=total, rows={"row": ""}), name="size")
+        # the name of a reader is none of a count
+        self.check_error(NoName, lambda: worth(HOUSE, Sum.parse("ab", "1 * size(row) + 1 * even(row)"), {"row": ""}), name="even")
+
+    def test_random_houses(self):
+        chance = random.Random(97)
+        for _ in range(60):
+            signs = chance.choice(("a", "ab", "abc"))
+            house = random_house(chance, signs, 3, 2)
+            total = random_sum(chance, signs)
+            rows = {name: chance.choice(rows_to(signs, 3)) for name in ("yy", "xx", "zz", "other")}
+            told = total.number
+            for factor, name, term in total.parts:
+                count = dict(house.counts)[name]
+                row, mark = term.spelled(rows), count.reader.first
+                for sign in row:
+                    told += factor * count.adds[count.reader.marks.index(mark)][signs.index(sign)]
+                    mark = count.reader.led(mark, sign)
+                told += factor * count.ends[count.reader.marks.index(mark)]
+            self.check_same(worth(house, total, rows), told)
 
 
 if __name__ == "__main__":

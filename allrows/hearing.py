@@ -1,0 +1,56 @@
+"""What a saying hears of its free names."""
+
+from allrows.sayings import inner_sayings, readings_of
+from allrows.sights import Sight
+
+
+def heard_parts(saying, name):
+    """The parts with which a saying hears a name where it is free, in order, each once."""
+    found = {}
+    for reader, part in _free_parts(saying, name):
+        change = part[3]
+        key = (reader, "" if change is None else str(change), part[2])
+        found[key] = (saying.house.reader_of(reader), change, part[2])
+    parts = []
+    # readers with unlike names may be equal
+    for key in sorted(list(found)):
+        if found[key] not in parts:
+            parts.append(found[key])
+    return parts
+
+
+def _free_parts(saying, name):
+    """The pairs of a reader's name and a part of a term with the name, at all places where it is free."""
+    found = []
+    waiting = [saying]
+    while waiting:
+        one = waiting.pop()
+        if name not in one.names:
+            continue
+        for reader, term in readings_of(one.form):
+            found.extend([(reader, part) for part in term.parts if part[0] == "name" and part[1] == name])
+        waiting.extend(inner_sayings(one.form))
+    return found
+
+
+def heard_sight(saying, name):
+    """The sight with which a saying hears a name, None if it does not."""
+    parts = heard_parts(saying, name)
+    return Sight(saying.house.signs, parts) if parts else None
+
+
+def heard_sights(saying):
+    """For each free name the sight with which a saying hears it."""
+    return {name: heard_sight(saying, name) for name in saying.names}
+
+
+def points_of_sight(sight):
+    """The pairs of a point and its least row, also if there is no sight."""
+    if sight is None:
+        return (((), ""),)
+    return sight.points()
+
+
+def point_in(sight, row):
+    """The point of a row, also if there is no sight."""
+    return () if sight is None else sight.point_of(row)
