@@ -200,8 +200,8 @@ def _least_form(signs, steps, good):
 def _lines_of_marks(condition):
     lines = []
     for mark, (targets, flag) in enumerate(zip(condition.steps, flags_of_marks(condition))):
-        words = [str(number) for number in targets]
-        lines.append(f"{mark}: {' '.join([*words, 'good'] if flag else words)}")
+        words = [str(number) for number in targets] + (["good"] if flag else [])
+        lines.append(f"{mark}: {' '.join(words)}")
     return lines
 
 

@@ -34,15 +34,15 @@ def judge_of(saying, sights):
     """The judge of a saying, its free names being seen with these sights."""
     inner, many = peeled(saying)
     if is_atom(inner.form):
-        node = _Atom(inner, sights)
+        node = Atom(inner, sights)
     elif is_quantified(inner.form):
-        node = _Quantified(inner, sights)
+        node = Quantified(inner, sights)
     else:
-        node = _Joined(inner, sights)
+        node = Joined(inner, sights)
     return Judge(node, many % 2 == 0)
 
 
-class _Reading:
+class Reading:
     """A reader that reads a term."""
 
     def __init__(self, reader, term, sights):
@@ -65,13 +65,13 @@ def _way_of_part(reader, part, sights):
     return (part[1], sights[part[1]].parts.index((reader, part[3], part[2])), None)
 
 
-class _Atom:
+class Atom:
     """One reader and a mark, or two readers."""
 
     def __init__(self, saying, sights):
         form = saying.form
         house = saying.house
-        self.readings = [_Reading(house.reader_of(name), term, sights) for name, term in readings_of(form)]
+        self.readings = [Reading(house.reader_of(name), term, sights) for name, term in readings_of(form)]
         self.mark = form[3] if form[0] == "is" else None
 
     def is_true(self, points):
@@ -87,7 +87,7 @@ class _Atom:
         return value == () and self.is_true(points) == is_holding
 
 
-class _Joined:
+class Joined:
     """Two sayings, both of which have to hold (and), or one of which (or, if)."""
 
     def __init__(self, saying, sights):
@@ -119,7 +119,7 @@ class _Joined:
         return self.judges[value[0]].is_tree_at(points, is_holding, value[1])
 
 
-class _Quantified:
+class Quantified:
     """A saying for all rows of a name, or for some."""
 
     def __init__(self, saying, sights):

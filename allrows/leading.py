@@ -66,7 +66,7 @@ def _condition_from(condition, begin, images):
 def after(condition, change):
     """The condition that lets the images of the rows that the given one lets."""
     check_signs(condition, change)
-    places = _Places(condition, change)
+    places = Places(condition, change)
 
     def lead(numbers, at):
         return places.led(numbers, at)
@@ -77,7 +77,7 @@ def after(condition, change):
     return condition_of(condition.signs, places.at_first, lead, is_good)
 
 
-class _Places:
+class Places:
     """The places in images at which a row can be: pairs of the mark behind the image, and what of it is to come.
 
     They are numbered, and each one told as the places at which the row then is as well, since images may be empty.

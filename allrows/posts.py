@@ -10,7 +10,6 @@ class Posts:
     """
 
     def __init__(self, scale, ends):
-        self.scale = scale
         self.incoming = {}
         # for each post the sign and the post by which a way leads on to an end
         self.onward = {end: None for end in ends}

@@ -34,8 +34,8 @@ COMPREHENSIONS = (ast.ListComp, ast.DictComp)
 class Checker:
     """Finds the breaches of one file; all_methods are the names of the methods and functions of the whole package."""
 
-    def __init__(self, name, text, all_methods):
-        self.name, self.text, self.all_methods = name, text, all_methods
+    def __init__(self, name, text, all_methods, passed_on=(), told_attributes=()):
+        self.name, self.text, self.all_methods, self.passed_on, self.told_attributes = name, text, all_methods, passed_on, told_attributes
         self.tree = ast.parse(text)
         self.found = []
         self.parents = {child: node for node in ast.walk(self.tree) for child in ast.iter_child_nodes(node)}
@@ -127,10 +127,23 @@ class Checker:
                 self.breach("L28", node, "an assignment")
         if node.name == "__init__" and any(isinstance(one, ast.Return) for one in ast.walk(node)):
             self.breach("L28", node, "a return")
+        for one in ast.walk(node):
+            if isinstance(one, ast.Return) and node.name in ("__str__", "__len__") and not self.is_plain_return(one.value, node.name):
+                self.breach("L28", one, "what is returned")
+
+    def is_plain_return(self, value, name):
+        """Whether what a method returns is of a form that L28 allows for it."""
+        if not isinstance(value, ast.Call):
+            return name == "__str__" and isinstance(value, (ast.Constant, ast.JoinedStr))
+        if isinstance(value.func, ast.Name):
+            return value.func.id == {"__str__": "str", "__len__": "len"}[name]
+        return name == "__str__" and value.func.attr == "join" and isinstance(value.func.value, ast.Constant)
 
     def check_class(self, node):
         if node.decorator_list or node.keywords or len(node.bases) > 1 or self.parents[node] is not self.tree:
             self.breach("L5", node, "a class")
+        if not node.name[0].isalpha():
+            self.breach("L12", node, node.name)
         for one in node.body:
             if not isinstance(one, ast.FunctionDef) and not (isinstance(one, ast.Expr) and isinstance(one.value, ast.Constant)):
                 self.breach("L5", one, "in a class")
@@ -198,6 +211,12 @@ class Checker:
             self.breach("L26", node, node.attr)
         if node.attr.startswith("__"):
             self.breach("L8", node, node.attr)
+        parent = self.parents[node]
+        is_called = isinstance(parent, ast.Call) and parent.func is node
+        if isinstance(node.ctx, ast.Load) and node.attr in self.passed_on and not is_called:
+            self.breach("L25", node, f"the method {node.attr} is passed on")
+        if isinstance(node.ctx, ast.Load) and not is_called and node.attr not in self.told_attributes:
+            self.breach("L18", node, f"nothing assigns {node.attr}")
 
     def check_comprehension(self, node):
         """In a nested function or another comprehension its variables are not names that are assigned further out."""
@@ -243,10 +262,31 @@ def breaches(texts):
     """All breaches in a dict from names of files to their texts."""
     trees = {name: ast.parse(text) for name, text in texts.items()}
     methods = {one.name for tree in trees.values() for one in ast.walk(tree) if isinstance(one, ast.FunctionDef)}
+    in_classes = [one for tree in trees.values() for cls in ast.walk(tree) if isinstance(cls, ast.ClassDef)
+                  for one in cls.body if isinstance(one, ast.FunctionDef)]
+    properties = {one.name for one in in_classes if any(isinstance(told, ast.Name) and told.id == "property" for told in one.decorator_list)}
+    attributes = {one.attr for tree in trees.values() for one in ast.walk(tree) if isinstance(one, ast.Attribute) and isinstance(one.ctx, ast.Store)}
     found = []
     for name, text in texts.items():
-        found += Checker(name, text, methods).check()
+        found += Checker(name, text, methods, {one.name for one in in_classes} - properties, properties | attributes).check()
+        found += wrong_calls(name, trees)
     return found + imports_that_come_round(trees)
+
+
+def wrong_calls(name, trees):
+    """L22: calls of the package's functions, by their bare names, that pass too few arguments or too many."""
+    functions = {one.name: one for one in trees[name].body if isinstance(one, ast.FunctionDef)}
+    for node in trees[name].body:
+        if isinstance(node, ast.ImportFrom) and node.module.startswith("allrows.") and node.module.split(".")[1] + ".py" in trees:
+            told = {one.name: one for one in trees[node.module.split(".")[1] + ".py"].body if isinstance(one, ast.FunctionDef)}
+            functions.update({one.name: told[one.name] for one in node.names if one.name in told})
+    found = []
+    for node in ast.walk(trees[name]):
+        if isinstance(node, ast.Call) and isinstance(node.func, ast.Name) and node.func.id in functions:
+            given = functions[node.func.id].args
+            if not len(given.args) - len(given.defaults) <= len(node.args) + len(node.keywords) <= len(given.args):
+                found.append(f"{name}:{node.lineno}: L22: {node.func.id}")
+    return found
 
 
 def imports_that_come_round(trees):

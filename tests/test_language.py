@@ -24,7 +24,9 @@ class LanguageTest(unittest.TestCase):
                      "def f(xs):\n    rows = zip(xs, xs)\n    return rows\n", "def f():\n    return open('a')\n", "def f():\n    return 'a%'\n",
                      "def f(x):\n    return x.title_of()\n", "def f():\n    pass\n" + "\n" * 400, "def f():\n" + "    pass\n" * 41, "x = 1\nx = 2\n",
                      "def f(xs):\n    xs.items = 3\n", "def f():\n    raise f()\n", "from allrows.aa import _f\n", "from allrows.aa import f\n\n\ndef g(f):\n    return f\n",
-                     "class A:\n    def __hash__(self):\n        return 1\n", "def f(n):\n    return 2 ** n\n", "def f():\n    try:\n        f()\n    except ValueError:\n        pass\n"):
+                     "class A:\n    def __hash__(self):\n        return 1\n", "class A:\n    def __str__(self):\n        return self.told_text()\n",
+                     "class A:\n    def __len__(self):\n        return 1 + 1\n", "class A:\n    def one(self):\n        return 1\n\n    def two(self):\n        return self.one\n",
+                     "def f(x):\n    return x.unheard_of\n", "class _A:\n    pass\n", "def f(x):\n    return f(x, x)\n", "def f(n):\n    return 2 ** n\n", "def f():\n    try:\n        f()\n    except ValueError:\n        pass\n"):
             self.assertTrue(breaches({"bb.py": code}), code)
         self.assertTrue(breaches({"aa.py": "from allrows.bb import x\n", "bb.py": "from allrows.aa import y\n"}))
 
