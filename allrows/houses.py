@@ -58,16 +58,15 @@ class House:
     def having(self, name, thing):
         """The house with this thing under this name, in the place of another one of its kind, or behind all."""
         if isinstance(thing, Reader):
-            if not _is_reader(thing, self.signs) or name in self._named_counts:
+            # a house would lay it to the counts that two things have one name
+            if name in self._named_counts:
                 raise InvalidHouse("readers")
             return House(self.signs, _pairs_with(self.readers, name, thing), self.counts)
-        if not _is_count(thing, self.signs) or name in self._named_readers:
-            raise InvalidHouse("counts")
         return House(self.signs, self.readers, _pairs_with(self.counts, name, thing))
 
     def without(self, name):
         """The house without the thing of this name."""
-        if not isinstance(name, str) or name not in self.names:
+        if name not in self.names:
             raise NoName(name)
         return House(self.signs, _pairs_without(self.readers, name), _pairs_without(self.counts, name))
 

@@ -24,7 +24,7 @@ def is_paper(weighing, value, slope, bound):
         return False
     tables = {}
     for scale, pair in zip(weighing.scales.values(), value):
-        if not is_tuple_of(pair, 2) or not isinstance(pair[0], str) or pair[0] != scale.name:
+        if not is_tuple_of(pair, 2) or pair[0] != scale.name:
             return False
         if not _is_table(scale, pair[1]):
             return False

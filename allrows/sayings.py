@@ -89,7 +89,7 @@ def peeled(saying):
 
 
 def _is_form(value, house):
-    if not isinstance(value, tuple) or len(value) == 0 or not isinstance(value[0], str):
+    if not isinstance(value, tuple) or len(value) == 0:
         return False
     if value[0] == "is":
         return len(value) == 4 and _is_term(value[2], house)

@@ -96,7 +96,7 @@ def _is_ring(weighing, value):
 
 
 def _is_row_of_name(value, name, signs):
-    return is_tuple_of(value, 2) and isinstance(value[0], str) and value[0] == name and is_row(value[1], signs)
+    return is_tuple_of(value, 2) and value[0] == name and is_row(value[1], signs)
 
 
 def _comes_round(weighing, name, ahead, middle, behind, rows):

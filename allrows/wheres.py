@@ -20,7 +20,7 @@ def where(saying, name):
 
 def some_where(saying, name):
     """The condition of the rows for which the saying holds with some rows for its other free names."""
-    if not isinstance(name, str) or name not in saying.names:
+    if name not in saying.names:
         raise NoName(name)
     sights = heard_sights(saying)
     pairs, table = numbered_points(sights[name])

@@ -172,6 +172,13 @@ class SightTest(Checks, unittest.TestCase):
         self.check_same(fails(saying), (("row", ""),) if not tried(saying, {"row": ""}) else None)
         self.assertIs(holds(Saying.parse(house, "zz(row) is aa(back row)")), True)
 
+    def test_rows_that_look_like_names(self):
+        house = House("x", [("turns", Reader("x", ["aa", "bb"], "aa", [["bb"], ["aa"]]))])
+        saying = Saying.parse(house, "turns('xx' + back xx + 'xx') is aa")
+        self.assertEqual(sight_of(saying, "xx").parts, ((house.reader_of("turns"), None, True),))
+        self.check_same(fails(saying), (("xx", "x"),))
+        self.assertIsNone(sight_of(Saying.parse(house, "turns('xx' + yy) is aa"), "xx"))
+
     def test_random_sayings(self):
         for saying in small_sayings(126, 100, quantifiers=2):
             for name in ("xx", "yy", "zz"):

@@ -98,6 +98,14 @@ class HalvesTest(Checks, unittest.TestCase):
             smaller = [condition for many in range(1, min(len(told), 4)) for condition in machines("ab", many)]
             self.assertFalse(any(is_half(said(one, house), said(other, house), condition) for condition in smaller[::7]))
 
+    def test_fewest_comes_round(self):
+        # lengths 1 and 2 are in, 0 and 3 are not: the lengths by three, although neither end is so
+        marks = ["ma", "mb", "mc", "md", "me"]
+        house = House("ab", [("one", Reader("ab", marks, "ma", [[mark, mark] for mark in marks[1:] + marks[-1:]]))])
+        one, other = said("( one(xx) is mb or one(xx) is mc )", house), said("not ( one(xx) is ma or one(xx) is md )", house)
+        self.assertEqual([len(condition) for condition in halves(one, other)], [4, 5])
+        self.assertEqual(fewest_half(one, other), Condition("ab", [[1, 1], [2, 2], [0, 0]], [1, 2]))
+
     def test_random_sayings(self):
         chance = random.Random(201)
         counts = {}

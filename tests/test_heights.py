@@ -76,6 +76,14 @@ class MostTest(Checks, unittest.TestCase):
         self.assertGreater(min(told.values()), 15)
         self.assertEqual(len(told), 3)
 
+    def test_rows_that_look_like_names(self):
+        flat = Reader("x", ["go"], "go", [["go"]])
+        house = House("x", [("flat", flat)], [("size", Count(flat, [[1]], [0]))])
+        for text, told in (("-1 * size('xx' + back xx)", -2), ("-1 * size('xx' + yy)", -2)):
+            total, saying = Sum.parse("x", text), Saying.parse(house, "flat('xx' + xx) is go")
+            self.check_same(most(total, saying), told)
+            self.assertIs(heights_hold(total, saying, told, heights(total, saying, told)), True)
+
     def test_random_sums_further(self):
         # a greatest worth, if there is one, is had by rows not much longer than there are posts; with few marks three signs tell it
         told = []

@@ -63,7 +63,7 @@ class SayingTest(Checks, unittest.TestCase):
         for name in NAMES_THAT_ARE_NONE:
             self.check_error(InvalidSaying, lambda: Saying(HOME, ("all", name, SAME)), word="form")
         for form in (["is", "odds", ROW, "even"], ("is", "odds", ROW), ("is", "odds", ROW, "even", 0), ("same", "odds", ROW, "odds"), ("not",), ("not", SAME, SAME),
-                     ("and", SAME), ("and", SAME, SAME, SAME), ("all", SAME), ("all", "row", "two", SAME), ("IS", "odds", ROW, "even"), ("then", SAME, SAME),
+                     ("and", SAME), ("and", SAME, SAME, SAME), ("all", SAME), ("all", "row", "two", SAME), ("all", "row", SAME, SAME), ("some", "row", SAME, "row"), ("IS", "odds", ROW, "even"), ("then", SAME, SAME),
                      ("all", SAME, "row"), ("is", "odds", (ROW,), "even"), (), ("not", SAME.form), ("is", "odds", "row", "even"), "not", SAME):
             self.check_error(InvalidSaying, lambda: Saying(HOME, form), word="form")
 

@@ -53,7 +53,7 @@ class RingTest(Checks, unittest.TestCase):
         for value, told in ((("row", "b", "ab", "", ()), True), (("row", "a", "ba", "", ()), True), (("row", "b", "ab", "b", ()), True),
                             (("row", "", "ab", "", ()), False), (("row", "b", "a", "", ()), False), (("row", "b", "b", "", ()), False),
                             (("row", "b", "abab", "aab", ()), True), (("row", "b", "", "ab", ()), False), (("two", "b", "ab", "", ()), False),
-                            (("row", "b", "ab", "", (("row", ""),)), False), (("row", "b", "ab", "", (("two", ""),)), False), (("row", "b", "ac", "", ()), False),
+                            (("row", "b", "ab", "", (("row", ""),)), False), (("two", "b", "ab", "", (("row", ""),)), False), (("row", "b", "ab", "", (("two", ""),)), False), (("row", "b", "ac", "", ()), False),
                             (("row", "b", "ab", ""), False), (("row", "b", "ab", "", (), ()), False), (["row", "b", "ab", "", ()], False),
                             (("row", "b", "ab", "", []), False), (("row", ["b"], "ab", "", ()), False), (("row", "b", "ab", None, ()), False)):
             self.assertIs(ring_holds(PEAK, ANY, value), told)
@@ -84,6 +84,16 @@ class RingTest(Checks, unittest.TestCase):
         self.assertIs(ring_holds(total, saying, ("row", "", "ab", "", ())), True)
         self.assertIs(ring_holds(total, saying, ("row", "", "a", "b", ())), False)
         self.assertIs(ring_holds(total, saying, ring(total, saying)), True)
+
+    def test_whole_row_behind(self):
+        # read backwards, b leads to the second mark, a to the third one, and only there a adds and stays
+        marks = ["ma", "mb", "mc"]
+        reader = Reader("abc", marks, "ma", [["mb", "mb", "ma"], ["mc", "mb", "ma"], ["mc", "ma", "ma"]])
+        house = House("abc", [("one", reader)], [("size", Count(reader, [[0, 0, 0], [0, 0, 0], [1, 0, 0]], [0, 0, 0]))])
+        total, saying = Sum.parse("abc", "1 * size(back row)"), Saying.parse(house, "one(back row) is one(back row)")
+        for behind, told in (("ab", True), ("b", False), ("", False), ("aab", True), ("ba", False), ("cba", False), ("aba", True)):
+            self.assertIs(ring_holds(total, saying, ("row", "c", "a", behind, ())), told)
+            self.assertIs(is_ring(total, saying, ("row", "c", "a", behind, ())), told)
 
     def test_any_values(self):
         for value in any_values():

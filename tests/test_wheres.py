@@ -160,6 +160,8 @@ class ToldAsTest(Checks, unittest.TestCase):
             saying = told_as(HOME, condition, names, "row")
             self.check(HOME, condition, names, "row", saying)
         self.assertIsNone(told_as(HOME, EVENS, ["ends"], "row"))
+        # without readers there is nothing to tell it by
+        self.assertIsNone(told_as(HOME, every("ab"), deciders(HOME, every("ab"))[0], "row"))
         self.assertIsNone(told_as(name="row", names=("odds", "ends"), condition=only("ab", [""]), house=HOME))
 
     def check(self, house, condition, names, name, saying):
