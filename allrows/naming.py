@@ -1,4 +1,4 @@
-"""Readers whose marks are named by the least rows that lead to them."""
+"""Names in their order, and readers whose marks are named by the least rows that lead to them."""
 
 from allrows.readers import Reader
 from allrows.values import is_name
@@ -10,11 +10,20 @@ _LETTERS = "abcdefghijklmnopqrstuvwxyz"
 
 def mark_names(many):
     """The first so many names of ma, mb, .., mz, na, .., zz, maa, mab, .."""
+    return _first_names(_FIRST_LETTERS, many, ())
+
+
+def new_names(many, taken):
+    """The first so many names of aa, ab, .., zz, aaa, aab, .. that are not taken."""
+    return _first_names(_LETTERS, many, taken)
+
+
+def _first_names(first_letters, many, taken):
     names = []
-    stems = list(_FIRST_LETTERS)
+    stems = list(first_letters)
     while len(names) < many:
         stems = [stem + letter for stem in stems for letter in _LETTERS]
-        names.extend([stem for stem in stems if is_name(stem)])
+        names.extend([stem for stem in stems if is_name(stem) and stem not in taken])
     return names[:many]
 
 

@@ -80,7 +80,11 @@ class Checker:
             elif isinstance(node, ast.Assign):
                 bound.append(node.targets[0].id)
                 plain = (ast.Constant, ast.Tuple, ast.Load)
-                if len(node.targets) != 1 or not all(isinstance(one, plain) for one in ast.walk(node.value)):
+                # a table: a dict whose values may be functions that are defined above
+                values = node.value.keys + node.value.values if isinstance(node.value, ast.Dict) else [node.value]
+                above = {one.name for one in self.tree.body[:at] if isinstance(one, ast.FunctionDef)}
+                if len(node.targets) != 1 or not all(isinstance(one, plain) or (isinstance(one, ast.Name) and one.id in above)
+                                                     for value in values for one in ast.walk(value)):
                     self.breach("L3", node, "no plain value")
             elif not (at == 0 and isinstance(node, ast.Expr) and isinstance(node.value, ast.Constant)):
                 self.breach("L3", node, "a statement")

@@ -40,6 +40,16 @@ FUNCTIONS = {
                "deciders(house, condition)", "told_as(house, condition, names, name)"],
     "halves": ["halves(one, other)", "is_half(one, other, condition)", "broken(one, other)", "is_only(one, other)", "loose_rows(one, other)",
                "fewest_half(one, other)"],
+    "quantless": ["unquantified(saying)"],
+    "rules": ["overlaps(rules)", "open_overlaps(rules)", "is_complete(rules)", "plain_rows(rules)", "many_plain(rules, long)",
+              "chain(rules, one, other)", "chain_holds(rules, one, other, value)"],
+    "rewriting": ["least_ones(readers)", "least_like(readers, row)", "rules_of(readers)", "unsound(readers, rules)", "fits(readers, rules)",
+                  "misfit(readers, rules)", "tells(readers, others)", "untold(readers, others)", "turns(readers, row)", "power(readers, row, many)",
+                  "turning(readers)", "behind(readers, one, other)", "ahead(readers, one, other)", "commute(readers)",
+                  "always_alike(readers, one, other)", "parting_rows(readers, one, other)"],
+    "looker": ["first_wrong(lines, told=())", "deduction_holds(claim, value, told=())"],
+    "deductions": ["uses(lines)", "told_of(lines)", "shortened(lines)", "filled(lines, name, other)", "deduction_of(claim)", "grown(saying, name)",
+                   "kept(saying, name)", "failures(lines, told=())", "mended(lines, told=())"],
 }
 
 CLASSES = {
@@ -62,6 +72,8 @@ CLASSES = {
                             "__str__(self)"],
     ("conditions", "Condition"): ["__init__(self, signs, steps, good)", "lets(self, row)", "within(self, other)", "parse(text)", "__len__(self)",
                                   "__eq__(self, other)", "__str__(self)"],
+    ("rules", "Rules"): ["__init__(self, signs, pairs)", "moves(self, row)", "after(self, row, move)", "reduced(self, row)", "road(self, row)",
+                         "__eq__(self, other)"],
 }
 
 PROPERTIES = {("changes", "Change"): ["is_plain", "is_void"], ("terms", "Term"): ["names"], ("sums", "Sum"): ["names"],
