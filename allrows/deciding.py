@@ -1,8 +1,7 @@
 """Deciding whether sayings hold for all rows."""
 
-from allrows.choosing import all_choices
 from allrows.errors import NoRow
-from allrows.hearing import heard_sight, heard_sights
+from allrows.hearing import choices_of_rows, heard_sight, heard_sights
 from allrows.judging import judge_of
 from allrows.sayings import Saying
 from allrows.values import is_row
@@ -26,17 +25,10 @@ def fails(saying):
     """The least rows for which a saying does not hold, or None."""
     sights = heard_sights(saying)
     judge = judge_of(saying, sights)
-    choices = all_choices([sight.points() for sight in sights.values()])
-    # the least row of each point is enough: rows of the same points fail alike
-    for choice in sorted(choices, key=_order_of_rows):
+    for choice in choices_of_rows(sights):
         if not judge.holds_at({name: point for name, (point, row) in zip(sights, choice)}):
             return tuple([(name, row) for name, (point, row) in zip(sights, choice)])
     return None
-
-
-def _order_of_rows(choice):
-    rows = [row for point, row in choice]
-    return (sum([len(row) for row in rows]), rows)
 
 
 def agree(one, other):

@@ -1,5 +1,6 @@
 """What a saying hears of its free names."""
 
+from allrows.choosing import all_choices
 from allrows.sayings import inner_sayings, readings_of
 from allrows.sights import Sight
 
@@ -54,3 +55,16 @@ def points_of_sight(sight):
 def point_in(sight, row):
     """The point of a row, also if there is no sight."""
     return () if sight is None else sight.point_of(row)
+
+
+def choices_of_rows(sights):
+    """All choices of a point, with its least row, for each name; those with fewer signs first, then by their rows.
+
+    Least rows are enough where points alone tell what holds.
+    """
+    return sorted(all_choices([points_of_sight(sight) for sight in sights.values()]), key=_order_of_rows)
+
+
+def _order_of_rows(choice):
+    rows = [row for point, row in choice]
+    return (sum([len(row) for row in rows]), rows)

@@ -57,3 +57,18 @@ def is_integer_text(text):
     if text.startswith("-"):
         return text != "-0" and is_digits(text[1:])
     return is_digits(text)
+
+
+def copied(value):
+    """A value that is equal, and in which no list is one of those in the value."""
+    if isinstance(value, list):
+        return [copied(thing) for thing in value]
+    if isinstance(value, tuple) and _has_list(value):
+        return tuple([copied(thing) for thing in value])
+    return value
+
+
+def _has_list(value):
+    if isinstance(value, tuple):
+        return any([_has_list(thing) for thing in value])
+    return isinstance(value, list)

@@ -200,8 +200,11 @@ class Checker:
         for one in node.handlers:
             if not isinstance(one.type, ast.Name) or one.type.id not in self.bound or one.name:
                 self.breach("L19", node, "a handler")
-        if node.finalbody:
-            self.breach("L6", node, "finally")
+        # in a finally names are kept in attributes, and nothing else is done
+        for one in node.finalbody:
+            if not (isinstance(one, ast.Assign) and len(one.targets) == 1 and isinstance(one.targets[0], ast.Attribute)
+                    and isinstance(one.value, ast.Name)):
+                self.breach("L6", node, "finally")
 
     def check_raise(self, node):
         made = node.exc

@@ -3,12 +3,14 @@
 import random
 from itertools import product
 
+from allrows.books import Book
 from allrows.changes import Change
 from allrows.conditions import Condition
 from allrows.counts import Count
 from allrows.deciding import sight_of
 from allrows.houses import House
 from allrows.readers import Reader
+from allrows.rules import Rules
 from allrows.sayings import Saying
 from allrows.sights import Sight
 from allrows.sums import Sum
@@ -38,6 +40,7 @@ def any_values():
         Sight("ab", [(EVEN, None, False)]), Count(EVEN, [[0, 1], [1, 0]], [0, 0]), Sum([], 3), (Sum([], 3), "a"),
         HOME, (HOME, "a"), Saying.parse(HOME, "odds(xx) is even"), [Saying.parse(HOME, "odds(xx) is even")],
         Condition("ab", [[1, 0], [0, 1]], [0]), (Condition("ab", [[0, 0]], []), "xx"),
+        Rules("ab", [("b", "")]), Book(HOME), (Book(HOME), "a"),
     ]
 
 

@@ -14,10 +14,10 @@ class ExamplesTest(unittest.TestCase):
 
     def test_examples(self):
         test = doctest.DocTestParser().get_doctest(self.text, {}, "examples", "examples.txt", 0)
-        self.assertEqual(len(test.examples), 79)
+        self.assertEqual(len(test.examples), 102)
         told = []
         result = doctest.DocTestRunner(verbose=False).run(test, out=told.append)
-        self.assertEqual((result.failed, result.attempted), (0, 79), "".join(told))
+        self.assertEqual((result.failed, result.attempted), (0, 102), "".join(told))
 
     def test_examples_of_the_readme(self):
         test = doctest.DocTestParser().get_doctest((HERE.parent / "README.md").read_text(), {}, "readme", "README.md", 0)

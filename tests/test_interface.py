@@ -50,6 +50,14 @@ FUNCTIONS = {
     "looker": ["first_wrong(lines, told=())", "deduction_holds(claim, value, told=())"],
     "deductions": ["uses(lines)", "told_of(lines)", "shortened(lines)", "filled(lines, name, other)", "deduction_of(claim)", "grown(saying, name)",
                    "kept(saying, name)", "failures(lines, told=())", "mended(lines, told=())"],
+    "roads": ["patterns(atoms)", "nos(atoms)", "jump(atoms, road)", "follows(atoms, saying)", "cores(atoms, saying)", "by_cases(atoms, saying)",
+              "split(atoms, saying)", "least_depth(atoms, saying)", "split_holds(atoms, saying, value)"],
+    "books": ["cited_names(lines)", "wrong(book)", "untrue(book)", "guilty(book)", "whole_lines(book, name)", "mended_book(book)",
+              "both_books(one, other)"],
+    "hangs": ["cites(book, name)", "hangs_on(book, name)", "bears(book, name)", "taken_out(book, names)", "kept_for(book, names)", "tainted(book)",
+              "rests(book)"],
+    "bases": ["is_enough(book, name, names)", "bases(book, name)", "cuts(book, name)", "road_to(book, name)", "road_to_holds(book, name, value)",
+              "is_order(book, names)", "orders(book)"],
 }
 
 CLASSES = {
@@ -74,10 +82,15 @@ CLASSES = {
                                   "__eq__(self, other)", "__str__(self)"],
     ("rules", "Rules"): ["__init__(self, signs, pairs)", "moves(self, row)", "after(self, row, move)", "reduced(self, row)", "road(self, row)",
                          "__eq__(self, other)"],
+    ("books", "Book"): ["__init__(self, house, lemmas=())", "claim_of(self, name)", "lines_of(self, name)", "having(self, name, claim, lines)",
+                        "without(self, name)", "told_only(self, name)", "__len__(self)", "__eq__(self, other)"],
+    ("live", "Live"): ["__init__(self, book)", "show(self, name, claim)", "take(self, name, claim)", "put(self, name, claim, lines)", "drop(self, name)",
+                       "mend(self)", "undo(self)", "within(self, work)", "__len__(self)"],
+    ("desk", "Desk"): ["__init__(self)", "say(self, command)"],
 }
 
 PROPERTIES = {("changes", "Change"): ["is_plain", "is_void"], ("terms", "Term"): ["names"], ("sums", "Sum"): ["names"],
-              ("houses", "House"): ["names"], ("sayings", "Saying"): ["names"]}
+              ("houses", "House"): ["names"], ("sayings", "Saying"): ["names"], ("books", "Book"): ["names"], ("live", "Live"): ["book"]}
 
 
 def told(name, thing):
