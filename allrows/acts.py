@@ -1,13 +1,17 @@
 """Acts: what a row does to a reader, from each of its marks."""
 
 from allrows.components import components
+from allrows.errors import InvalidRow
 from allrows.readers import table_of
-from allrows.walks import least_way, walked
+from allrows.values import is_row
+from allrows.walks import least_way, walked, walked_table
 
 
 def act(reader, row):
     """The marks to which a row leads from each mark."""
-    return tuple([reader.led(mark, row) for mark in reader.marks])
+    if not is_row(row, reader.signs):
+        raise InvalidRow()
+    return _marks_at(reader, reader.numbers_led(row))
 
 
 def first_act(reader):
@@ -51,10 +55,7 @@ def last_homes(reader):
 def _told_homes(reader):
     """The pairs of a class of acts and whether no act outside is led to."""
     table = table_of(reader)
-    lead = _act_lead(table)
-    found = [numbers for numbers, row in walked(reader.signs, tuple(range(len(table))), lead)]
-    places = {numbers: at for at, numbers in enumerate(found)}
-    targets = [[places[lead(numbers, sign)] for sign in range(len(reader.signs))] for numbers in found]
+    found, _, targets = walked_table(reader.signs, tuple(range(len(table))), _act_lead(table))
     home_of = components(targets)
     members = [[] for _ in range(max(home_of) + 1)]
     is_last = [True for _ in members]

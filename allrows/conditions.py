@@ -5,7 +5,7 @@ from allrows.errors import InvalidCondition, InvalidText
 from allrows.lots import check_signs
 from allrows.readers import is_told, lines_of_text
 from allrows.values import is_digits, is_integer, is_sequence, is_signs
-from allrows.walks import walked
+from allrows.walks import walked, walked_table
 
 _MOST_DIGITS = 3
 
@@ -81,9 +81,7 @@ def condition_of(signs, begin, lead, is_good):
 
     lead(thing, at) is where the sign with the number at leads a thing, is_good(thing) whether its rows are let.
     """
-    things = [thing for thing, row in walked(signs, begin, lead)]
-    numbers = {thing: number for number, thing in enumerate(things)}
-    steps = [[numbers[lead(thing, at)] for at in range(len(signs))] for thing in things]
+    things, _, steps = walked_table(signs, begin, lead)
     return Condition(signs, steps, [number for number, thing in enumerate(things) if is_good(thing)])
 
 

@@ -1,7 +1,7 @@
 """Counts: they add integers as a reader reads."""
 
 from allrows.errors import InvalidCount, InvalidText
-from allrows.readers import Reader, lines_of_text, marks_of_lines, reader_end, reader_of_lines
+from allrows.readers import Reader, columns_of, lines_of_text, marks_of_lines, reader_end, reader_of_lines
 from allrows.values import is_integer, is_integer_text, is_sequence
 
 _MOST_DIGITS = 9
@@ -20,6 +20,8 @@ class Count:
         self.reader = reader
         self.adds = tuple([tuple(added) for added in adds])
         self.ends = tuple(ends)
+        # for each sign what it adds at each mark
+        self._columns = columns_of(reader.signs, self.adds)
 
     @classmethod
     def parse(cls, text):
@@ -37,6 +39,19 @@ class Count:
             amount += self.adds[self.reader.number_of(mark)][self.reader.signs.index(sign)]
             mark = self.reader.led(mark, sign)
         return (last, amount)
+
+    def ways_led(self, row):
+        """For each mark, in order, the number of the one to which a row leads it, and what is added on the way."""
+        if row == "":
+            return (self.reader.numbers_led(""), [0 for _ in self.ends])
+        numbers = self.reader.numbers_led(row[0])
+        amounts = list(self._columns[row[0]])
+        for sign in row[1:]:
+            column = self._columns[sign]
+            targets = self.reader.numbers_led(sign)
+            amounts = [amount + column[number] for amount, number in zip(amounts, numbers)]
+            numbers = [targets[number] for number in numbers]
+        return (numbers, amounts)
 
     def of(self, row):
         """The amount of a whole row."""

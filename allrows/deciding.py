@@ -1,7 +1,7 @@
 """Deciding whether sayings hold for all rows."""
 
 from allrows.errors import NoRow
-from allrows.hearing import choices_of_rows, heard_sight, heard_sights
+from allrows.hearing import choices_of_rows, heard_sight, heard_sights, placed_in, point_in
 from allrows.judging import judge_of
 from allrows.sayings import Saying
 from allrows.values import is_row
@@ -13,7 +13,7 @@ def true_at(saying, rows):
         if name not in rows or not is_row(rows[name], saying.house.signs):
             raise NoRow(name)
     sights = heard_sights(saying)
-    return truth(saying, sights, {name: sight.point_of(rows[name]) for name, sight in sights.items()})
+    return judge_of(saying, sights).holds_at({name: point_in(sight, rows[name]) for name, sight in sights.items()})
 
 
 def holds(saying):
@@ -46,4 +46,5 @@ def sight_of(saying, name):
 
 def truth(saying, sights, points):
     """Whether a saying holds at told points of its free names, seen with these sights."""
-    return judge_of(saying, sights).holds_at(points)
+    placed = {name: placed_in(sights[name], points[name]) for name in saying.names}
+    return judge_of(saying, sights).holds_at(placed)

@@ -3,10 +3,10 @@
 from allrows.choosing import all_choices
 from allrows.conditions import Condition, pair_lead, rest
 from allrows.errors import Mismatch
-from allrows.hearing import heard_sights
+from allrows.hearing import heard_sights, point_in, points_of_sight
 from allrows.judging import judge_of
 from allrows.rowsets import least_let
-from allrows.walks import walked
+from allrows.walks import walked_table
 from allrows.wheres import some_where, where
 
 
@@ -79,8 +79,8 @@ def _other_rows(saying, name, row, is_holding):
     sights = heard_sights(saying)
     judge = judge_of(saying, sights)
     others = [own for own in saying.names if own != name]
-    points = {name: sights[name].point_of(row)}
-    for choice in all_choices([sights[own].points() for own in others]):
+    points = {name: point_in(sights[name], row)}
+    for choice in all_choices([points_of_sight(sights[own]) for own in others]):
         for own, (point, _) in zip(others, choice):
             points[own] = point
         if judge.holds_at(points) == is_holding:
@@ -90,10 +90,7 @@ def _other_rows(saying, name, row, is_holding):
 
 def _half_with(many, least, greatest):
     """Some half with at most so many marks, or None."""
-    pairs = [pair for pair, row in walked(least.signs, (0, 0), pair_lead(least, greatest))]
-    numbers = {pair: number for number, pair in enumerate(pairs)}
-    lead = pair_lead(least, greatest)
-    table = [[numbers[lead(pair, at)] for at in range(len(least.signs))] for pair in pairs]
+    pairs, _, table = walked_table(least.signs, (0, 0), pair_lead(least, greatest))
     # True: has to be let, False: must not be, None: either way
     asked = [_asked_of(mark in least.good, other_mark in greatest.good) for mark, other_mark in pairs]
     waiting = [{}]

@@ -2,7 +2,7 @@
 
 from allrows.choosing import all_choices
 from allrows.sayings import inner_sayings, readings_of
-from allrows.sights import Sight
+from allrows.sights import Sight, placed_points
 
 
 def heard_parts(saying, name):
@@ -46,21 +46,27 @@ def heard_sights(saying):
 
 
 def points_of_sight(sight):
-    """The pairs of a point and its least row, also if there is no sight."""
+    """The list of pairs of a placed point and its least row, also if there is no sight."""
     if sight is None:
-        return (((), ""),)
-    return sight.points()
+        return [((), "")]
+    things, rows, _ = placed_points(sight)
+    return list(zip(things, rows))
 
 
 def point_in(sight, row):
-    """The point of a row, also if there is no sight."""
-    return () if sight is None else sight.point_of(row)
+    """The placed point of a row, also if there is no sight."""
+    return () if sight is None else sight.placing.placed_row(row)
+
+
+def placed_in(sight, point):
+    """The placed point that a point is, also if there is no sight."""
+    return () if sight is None else sight.placing.placed(point)
 
 
 def choices_of_rows(sights):
-    """All choices of a point, with its least row, for each name; those with fewer signs first, then by their rows.
+    """All choices of a placed point, with its least row, for each name, ordered as least rows are.
 
-    Least rows are enough where points alone tell what holds.
+    First come those with fewer signs, then those ahead by their rows. Least rows are enough where points tell all.
     """
     return sorted(all_choices([points_of_sight(sight) for sight in sights.values()]), key=_order_of_rows)
 

@@ -1,7 +1,7 @@
 """Heights: the greatest worths of sums for rows that are met, and papers for them."""
 
 from allrows.papers import is_paper, made_paper
-from allrows.posts import LEVEL, Climb
+from allrows.posts import LEVEL
 from allrows.weighed import Weighed
 from allrows.weighing import Weighing
 
@@ -9,58 +9,51 @@ from allrows.weighing import Weighing
 def most(total, saying):
     """The greatest worth of rows that are met, "endless" if there is no greatest one, "none" if no rows are met."""
     weighed = Weighed(total, saying)
-    return _greatest(weighed, _climbs(weighed))[0]
+    return weighed.greatest(weighed.climbs(LEVEL), 1)[0]
 
 
 def least(total, saying):
     """The least worth of rows that are met, "endless" if there is no least one, "none" if no rows are met."""
-    told = most(total.scaled(-1), saying)
+    return _least_worth(Weighed(total, saying))
+
+
+def _least_worth(weighed):
+    # the greatest worth of the contrary, whose steps are those of the sum times -1
+    told = weighed.greatest(weighed.climbs((0, -1)), -1)[0]
     return told if isinstance(told, str) else -told
 
 
 def best_rows(total, saying):
     """Some rows that are met and have the greatest worth, or None."""
     weighed = Weighed(total, saying)
-    climbs = _climbs(weighed)
-    choice = _greatest(weighed, climbs)[1]
-    if choice is None:
-        return None
-    return tuple([(name, climb.row_to(choice[0][name])) for name, climb in climbs.items()])
-
-
-def _climbs(weighed):
-    return {name: Climb(posts, posts.begins(), LEVEL) for name, posts in weighed.posts.items()}
-
-
-def _greatest(weighed, climbs):
-    """The greatest worth and a choice that has it, None if there is none."""
-    if not weighed.choices:
-        return ("none", None)
-    if any([climb.loop is not None for climb in climbs.values()]):
-        return ("endless", None)
-    worths = []
-    for posts, besides in weighed.choices:
-        worths.append(besides + sum([climbs[name].gains[post] for name, post in posts.items()]))
-    return (max(worths), weighed.choices[worths.index(max(worths))])
+    climbs = weighed.climbs(LEVEL)
+    choice = weighed.greatest(climbs, 1)[1]
+    return None if choice is None else weighed.rows_of(climbs, choice)
 
 
 def clear(total, saying):
     """The one worth of all rows that are met, or None."""
-    greatest = most(total, saying)
-    if isinstance(greatest, str) or least(total, saying) != greatest:
-        return None
-    return greatest
+    told = _one_worth(total, saying)
+    return None if isinstance(told, str) else told
+
+
+def _one_worth(total, saying):
+    """The one worth of all rows that are met, "none" if no rows are, or "several"."""
+    weighed = Weighed(total, saying)
+    greatest = weighed.greatest(weighed.climbs(LEVEL), 1)[0]
+    if greatest == "none":
+        return "none"
+    return greatest if greatest != "endless" and _least_worth(weighed) == greatest else "several"
 
 
 def is_constant(total, saying):
     """Whether all rows that are met have one worth."""
-    return most(total, saying) == "none" or clear(total, saying) is not None
+    return _one_worth(total, saying) != "several"
 
 
 def same_worth(one, other, saying):
     """Whether two sums have the same worth for all rows that are met."""
-    rest = one + other.scaled(-1)
-    return most(rest, saying) == "none" or clear(rest, saying) == 0
+    return _one_worth(one + other.scaled(-1), saying) in (0, "none")
 
 
 def at_most(total, saying, bound):
@@ -72,8 +65,8 @@ def at_most(total, saying, bound):
 def heights(total, saying, bound):
     """Some paper of heights for the bound, or None."""
     weighed = Weighed(total, saying)
-    climbs = _climbs(weighed)
-    told = _greatest(weighed, climbs)[0]
+    climbs = weighed.climbs(LEVEL)
+    told = weighed.greatest(climbs, 1)[0]
     if told == "endless" or (told != "none" and told > bound):
         return None
     return made_paper(weighed, climbs)

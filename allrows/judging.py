@@ -1,14 +1,13 @@
 """Judging sayings at points of their free names, and trees that show what is judged."""
 
-from allrows.acts import act
-from allrows.hearing import heard_sight, point_in, points_of_sight
+from allrows.hearing import heard_sight, placed_in, point_in, points_of_sight
 from allrows.sayings import is_atom, is_quantified, peeled, readings_of
 from allrows.sights import lot_closed
 from allrows.values import is_integer, is_row, is_tuple_of
 
 
 class Judge:
-    """Tells at points whether a saying holds: that is if its node is true, or if it is not."""
+    """Tells at placed points whether a saying holds: that is if its node is true, or if it is not."""
 
     def __init__(self, node, is_told_true):
         self.node = node
@@ -46,23 +45,23 @@ class Reading:
     """A reader that reads a term."""
 
     def __init__(self, reader, term, sights):
-        self.reader = reader
+        self.marks = reader.marks
+        self.first = reader.number_of(reader.first)
         self.ways = [_way_of_part(reader, part, sights) for part in term.parts]
 
     def end_at(self, points):
         """The mark to which the row of the term leads."""
-        mark = self.reader.first
-        for name, at, told in self.ways:
-            targets = points[name][at] if told is None else told
-            mark = targets[self.reader.number_of(mark)]
-        return mark
+        number = self.first
+        for name, begin, told in self.ways:
+            number = points[name][begin + number] - begin if told is None else told[number]
+        return self.marks[number]
 
 
 def _way_of_part(reader, part, sights):
-    """A name, the number of a part of its sight, and None; or None, 0 and the act of a plain row."""
+    """A name, the first place in its sight, and None; or None, 0 and where a plain row leads each mark, by numbers."""
     if part[0] == "row":
-        return (None, 0, act(reader, part[1]))
-    return (part[1], sights[part[1]].parts.index((reader, part[3], part[2])), None)
+        return (None, 0, reader.numbers_led(part[1]))
+    return (part[1], sights[part[1]].placing.begin_of((reader, part[3], part[2])), None)
 
 
 class Atom:
@@ -176,9 +175,12 @@ class Quantified:
         if is_holding != self.is_all:
             point, row = self._turning_pair(points)
             return ("row", row, self.judge.tree_at(self._with_point(points, point), is_holding))
-        lot = sorted([point for point, row in self.pairs])
-        trees = [self.judge.tree_at(self._with_point(points, point), is_holding) for point in lot]
-        return ("lot", tuple(lot), tuple(trees))
+        lot = sorted([(self._marked(point), point) for point, row in self.pairs])
+        trees = [self.judge.tree_at(self._with_point(points, point), is_holding) for _, point in lot]
+        return ("lot", tuple([marked for marked, point in lot]), tuple(trees))
+
+    def _marked(self, point):
+        return () if self.sight is None else self.sight.placing.marked(point)
 
     def is_tree_of(self, points, is_holding, value):
         if not is_tuple_of(value, 3):
@@ -192,7 +194,8 @@ class Quantified:
         if word != "lot" or not self._is_lot(told) or not is_tuple_of(shown, len(told)):
             return False
         for point, tree in zip(told, shown):
-            if not self.judge.is_tree_at(self._with_point(points, point), is_holding, tree):
+            inner = self._with_point(points, placed_in(self.sight, point))
+            if not self.judge.is_tree_at(inner, is_holding, tree):
                 return False
         return True
 

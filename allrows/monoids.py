@@ -1,7 +1,7 @@
 """Acts on several readers at once, numbered in the order of their least rows."""
 
 from allrows.readers import table_of
-from allrows.walks import walked
+from allrows.walks import walked_table
 
 
 class Monoid:
@@ -10,11 +10,8 @@ class Monoid:
     def __init__(self, readers):
         lead = _act_lead(readers)
         self.signs = readers[0].signs
-        pairs = walked(self.signs, tuple(range(sum([len(reader.marks) for reader in readers]))), lead)
-        self.acts_found = [one for one, row in pairs]
-        self.least_rows = [row for one, row in pairs]
-        numbers = {one: number for number, (one, row) in enumerate(pairs)}
-        self.table = [[numbers[lead(one, at)] for at in range(len(self.signs))] for one, row in pairs]
+        many = sum([len(reader.marks) for reader in readers])
+        self.acts_found, self.least_rows, self.table = walked_table(self.signs, tuple(range(many)), lead)
 
     def led(self, number, row):
         """The number of the act that comes of one by a row put behind."""

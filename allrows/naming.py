@@ -2,7 +2,7 @@
 
 from allrows.readers import Reader
 from allrows.values import is_name
-from allrows.walks import walked
+from allrows.walks import walked_table
 
 _FIRST_LETTERS = "mnopqrstuvwxyz"
 _LETTERS = "abcdefghijklmnopqrstuvwxyz"
@@ -32,8 +32,7 @@ def named_reader(signs, begin, lead):
 
     lead(thing, at) is where the sign with the number at leads a thing.
     """
-    things = [thing for thing, row in walked(signs, begin, lead)]
+    things, _, table = walked_table(signs, begin, lead)
     names = mark_names(len(things))
-    name_of = dict(zip(things, names))
-    steps = [[name_of[lead(thing, at)] for at in range(len(signs))] for thing in things]
+    steps = [[names[number] for number in targets] for targets in table]
     return (Reader(signs, names, names[0], steps), things)

@@ -11,11 +11,17 @@ def made_paper(weighed, climbs):
     told = []
     for name, scale in weighed.scales.items():
         gains = climbs[name].gains
+        enterings = [(entering, _marked_entering(scale, entering)) for entering in scale.enterings()]
         table = []
-        for number, point in enumerate(scale.listed):
-            table.extend([(point, entering, gains.get((number, entering))) for entering in scale.enterings()])
+        for number, placed in enumerate(scale.listed):
+            point = scale.placing.marked(placed)
+            table.extend([(point, marks, gains.get((number, entering))) for entering, marks in enterings])
         told.append((name, tuple(table)))
     return tuple(told)
+
+
+def _marked_entering(scale, entering):
+    return tuple([scale.placing.marks[place] for place in entering])
 
 
 def is_paper(weighing, value, slope, bound):
@@ -28,73 +34,86 @@ def is_paper(weighing, value, slope, bound):
             return False
         if not _is_table(scale, pair[1]):
             return False
-        tables[scale.name] = {(point, entering): height for point, entering, height in pair[1]}
-        if not _is_closed(scale, tables[scale.name], slope):
+        tables[scale.name] = _placed_table(scale, pair[1])
+        # each post stands there once at most
+        if len(tables[scale.name]) < len(pair[1]) or not _is_closed(scale, tables[scale.name], slope):
             return False
     return _are_choices_bound(weighing, tables, bound)
 
 
 def _is_table(scale, value):
-    """Whether any value is a tuple of posts with heights, each post once."""
-    if not isinstance(value, tuple) or not all([_is_row_of_table(scale, triple) for triple in value]):
+    """Whether any value is a tuple of triples of a point, an entering, and an integer or None."""
+    if not isinstance(value, tuple):
         return False
-    return len(set([(triple[0], triple[1]) for triple in value])) == len(value)
+    looked_at = []
+    for triple in value:
+        if not is_tuple_of(triple, 3) or not _is_entering(scale, triple[1]):
+            return False
+        if triple[2] is not None and not is_integer(triple[2]):
+            return False
+        # triples with one point mostly stand together: it is looked at once
+        if looked_at != [triple[0]]:
+            if not is_point(scale.sight, triple[0]):
+                return False
+            looked_at = [triple[0]]
+    return True
 
 
-def _is_row_of_table(scale, value):
-    if not is_tuple_of(value, 3) or not is_point(scale.sight, value[0]):
+def _is_entering(scale, value):
+    if not is_tuple_of(value, len(scale.occurrences)):
         return False
-    if not is_tuple_of(value[1], len(scale.occurrences)):
-        return False
-    if not all([is_mark(one.reader, mark) for one, mark in zip(scale.occurrences, value[1])]):
-        return False
-    return value[2] is None or is_integer(value[2])
+    return all([is_mark(one.part[0], mark) for one, mark in zip(scale.occurrences, value)])
+
+
+def _placed_table(scale, table):
+    """The heights of a table, by placed points and the places of enterings."""
+    points = {}
+    heights = {}
+    for point, entering, height in table:
+        if point not in points:
+            points[point] = scale.placing.placed(point)
+        places = [
+            begin + one.part[0].number_of(mark)
+            for (begin, _), one, mark in zip(scale.spans, scale.occurrences, entering)
+        ]
+        heights[(points[point], tuple(places))] = height
+    return heights
 
 
 def _is_closed(scale, table, slope):
-    begin = scale.sight.begin()
-    at_begin = [height for (point, entering), height in table.items() if point == begin]
+    at_begin = [height for (point, _), height in table.items() if point == scale.placing.at_first]
     many = 1
-    for one in scale.occurrences:
-        many *= len(one.reader.marks)
+    for begin, end in scale.spans:
+        many *= end - begin
     # each post stands there once at most, so this many are all
     if len(at_begin) != many or not all([height is None or height >= 0 for height in at_begin]):
         return False
-    steps = {}
-    for post in table:
-        if post[0] not in steps:
-            steps[post[0]] = [(sign, scale.sight.step(post[0], sign)) for sign in scale.sight.signs]
-        for sign, target in steps[post[0]]:
-            if not _is_kept(scale, table, slope, post, sign, target):
+    targets = {}
+    laters = {}
+    for point, entering in table:
+        if point not in targets:
+            targets[point] = [scale.placing.step(point, at) for at in range(len(scale.sight.signs))]
+        if entering not in laters:
+            laters[entering] = [scale.enterings_behind(entering, sign) for sign in scale.sight.signs]
+        for sign, target, later in zip(scale.sight.signs, targets[point], laters[entering]):
+            if not _is_kept(scale, table, slope, (point, entering), sign, [(target, one) for one in later]):
                 return False
     return True
 
 
-def _is_kept(scale, table, slope, post, sign, target):
+def _is_kept(scale, table, slope, post, sign, targets):
     """Whether all posts to which a post leads by a sign are in the table, and high enough."""
-    point, entering = post
     height = table[post]
-    for later in all_choices(_later_marks(scale, entering, sign)):
-        if (target, later) not in table:
+    for target in targets:
+        if target not in table:
             return False
-        reached = table[(target, later)]
+        reached = table[target]
         if reached is None:
             continue
-        step = scale.gained_by(point, later, sign) * slope[1] - slope[0]
+        step = scale.gained_by(post[0], target[1], sign) * slope[1] - slope[0]
         if height is None or reached < height + step:
             return False
     return True
-
-
-def _later_marks(scale, entering, sign):
-    """For each occurrence the marks of enterings of which this one comes."""
-    lists = []
-    for one, mark in zip(scale.occurrences, entering):
-        if one.is_back:
-            lists.append([own for own in one.reader.marks if one.ways[sign][own][0] == mark])
-        else:
-            lists.append([mark])
-    return lists
 
 
 def _are_choices_bound(weighing, tables, bound):

@@ -6,6 +6,7 @@ from allrows.judging import judge_of
 from allrows.naming import new_names
 from allrows.readers import Reader
 from allrows.sayings import Saying, inner_sayings, is_atom, is_quantified, peeled
+from allrows.sights import placed_points
 from allrows.terms import Term
 
 
@@ -73,9 +74,12 @@ def _told_by_points(part, house, names):
     """A saying of the points of the free names at which a part with a quantifier holds."""
     sights = heard_sights(part)
     judge = judge_of(part, sights)
-    seen = [(name, sight, [point for point, row in sight.points()]) for name, sight in sights.items()]
-    choices = all_choices([points for name, sight, points in seen])
-    truths = [judge.holds_at(dict(zip(sights, choice))) for choice in choices]
+    placed = [placed_points(sight)[0] for sight in sights.values()]
+    truths = [judge.holds_at(dict(zip(sights, choice))) for choice in all_choices(placed)]
+    seen = [
+        (name, sight, [sight.placing.marked(point) for point in points])
+        for (name, sight), points in zip(sights.items(), placed)
+    ]
     told = PointTeller(part.house, house, names).told(seen, tuple(truths))
     if told is None:
         sure = _first_atom(house, Term([]))

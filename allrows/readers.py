@@ -23,6 +23,7 @@ class Reader:
         self.steps = tuple([tuple(targets) for targets in steps])
         self._numbers = {mark: at for at, mark in enumerate(self.marks)}
         self._leads = {mark: dict(zip(signs, targets)) for mark, targets in zip(self.marks, self.steps)}
+        self._columns = columns_of(signs, table_of(self))
 
     @classmethod
     def parse(cls, text):
@@ -49,6 +50,16 @@ class Reader:
         """The place of a mark among the marks."""
         return self._numbers[mark]
 
+    def numbers_led(self, row):
+        """For each mark, in order, the number of the one to which a row leads it."""
+        if row == "":
+            return list(range(len(self.marks)))
+        numbers = list(self._columns[row[0]])
+        for sign in row[1:]:
+            column = self._columns[sign]
+            numbers = [column[number] for number in numbers]
+        return numbers
+
     def __eq__(self, other):
         return (
             isinstance(other, Reader)
@@ -73,6 +84,11 @@ def is_mark(reader, value):
 def table_of(reader):
     """For each mark the numbers of the marks to which the signs lead it."""
     return [[reader.number_of(mark) for mark in targets] for targets in reader.steps]
+
+
+def columns_of(signs, table):
+    """For each sign the list of what the rows of a table have at its place."""
+    return {sign: [things[at] for things in table] for at, sign in enumerate(signs)}
 
 
 def reached(reader):

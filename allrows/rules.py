@@ -3,7 +3,7 @@
 from allrows.errors import InvalidRules
 from allrows.tables import longest_from, ways_by_length
 from allrows.values import is_integer, is_row, is_sequence, is_signs, is_tuple_of, row_order
-from allrows.walks import walked
+from allrows.walks import walked_table
 
 
 class Rules:
@@ -143,9 +143,7 @@ def _plain_table(rules):
             return None
         return [row[begin:] for begin in range(len(row) + 1) if row[begin:] in begins][0]
 
-    states = [state for state, row in walked(rules.signs, "", lead)]
-    numbers = {state: number for number, state in enumerate(states)}
-    table = [[numbers[lead(state, at)] for at in range(len(rules.signs))] for state in states]
+    states, _, table = walked_table(rules.signs, "", lead)
     return (table, [state is not None for state in states])
 
 

@@ -3,9 +3,11 @@
 from allrows.acts import act, act_then, first_act
 from allrows.changes import Change
 from allrows.errors import InvalidSight
+from allrows.placing import Placing, row_of_part
 from allrows.readers import Reader, is_mark
+from allrows.tables import ways_by_length
 from allrows.values import is_sequence, is_signs, is_tuple_of
-from allrows.walks import least_way, walked
+from allrows.walks import least_way, walked_table
 
 
 class Sight:
@@ -18,7 +20,7 @@ class Sight:
             raise InvalidSight("parts")
         self.signs = signs
         self.parts = tuple(parts)
-        self._points = {sign: self.point_of(sign) for sign in signs}
+        self.placing = Placing(signs, self.parts)
 
     def begin(self):
         """The point of the empty row."""
@@ -26,10 +28,11 @@ class Sight:
 
     def step(self, point, sign):
         """The point of the row with one sign more at its end."""
-        return self.put_behind(point, self._points[sign])
+        placing = self.placing
+        return placing.marked(placing.step(placing.placed(point), self.signs.index(sign)))
 
     def point_of(self, row):
-        return tuple([act(part[0], _row_of_part(part, row)) for part in self.parts])
+        return self.placing.marked(self.placing.placed_row(row))
 
     def put_behind(self, point, other):
         """The point of a row with the first point and one with the other point behind it."""
@@ -37,7 +40,8 @@ class Sight:
 
     def points(self):
         """All points that rows have, each with its least row."""
-        return tuple(walked(self.signs, self.begin(), _point_lead(self)))
+        things, rows, _ = placed_points(self)
+        return tuple([(self.placing.marked(placed), row) for placed, row in zip(things, rows)])
 
     def __len__(self):
         return len(self.parts)
@@ -54,11 +58,6 @@ def _is_part(value, signs):
     return value[0].signs == signs
 
 
-def _row_of_part(part, row):
-    changed = row if part[1] is None else part[1].of(row)
-    return changed[::-1] if part[2] else changed
-
-
 def _put_together(part, one, other):
     """The act of a part for two rows put together: turned about, the later one comes first."""
     if part[2]:
@@ -66,31 +65,41 @@ def _put_together(part, one, other):
     return act_then(part[0], one, other)
 
 
-def _point_lead(sight):
+def placed_points(sight):
+    """The lists of all placed points that rows have, of their least rows, and of the numbers of those signs lead to."""
+    return walked_table(sight.signs, sight.placing.at_first, _point_lead(sight))
 
-    def lead(point, at):
-        return sight.step(point, sight.signs[at])
+
+def _point_lead(sight):
+    placing = sight.placing
+
+    def lead(placed, at):
+        return placing.step(placed, at)
 
     return lead
 
 
 def row_with(sight, point):
     """The least row with a point, None if no row has it."""
+    if not is_point(sight, point):
+        return None
+    asked = sight.placing.placed(point)
 
-    def is_it(other):
-        return other == point
+    def is_asked(placed):
+        return placed == asked
 
-    return least_way(sight.signs, sight.begin(), _point_lead(sight), is_it)
+    return least_way(sight.signs, sight.placing.at_first, _point_lead(sight), is_asked)
 
 
 def lot_closed(sight, value):
     """Whether any value is a tuple of points with the first one, and with each one those of all signs."""
     if not isinstance(value, tuple) or not all([is_point(sight, point) for point in value]):
         return False
-    told = {point: True for point in value}
-    if sight.begin() not in told:
+    placing = sight.placing
+    told = {placing.placed(point): True for point in value}
+    if placing.at_first not in told:
         return False
-    return all([sight.step(point, sign) in told for point in told for sign in sight.signs])
+    return all([placing.step(placed, at) in told for placed in told for at in range(len(sight.signs))])
 
 
 def is_point(sight, value):
@@ -105,32 +114,24 @@ def _is_act(reader, value):
 
 def many(sight, point, length):
     """How many rows of this length have a point."""
-    pairs, table = numbered_points(sight)
-    ways = [int(other == point) for other, row in pairs]
-    for _ in range(length):
-        ways = [sum([ways[target] for target in targets]) for targets in table]
-    return ways[0]
+    things, _, table = placed_points(sight)
+    flags = [sight.placing.marked(placed) == point for placed in things]
+    return ways_by_length(table, flags, length)[length][0]
 
 
 def rounds(sight):
     """The least numbers (tail, ring) with which rows of tail + ring signs have the points of those of tail signs."""
-    lots, tail = _lots_by_length(numbered_points(sight)[1])
+    lots, tail = _lots_by_length(placed_points(sight)[2])
     return (tail, len(lots) - tail)
 
 
 def lengths(sight, point):
     """The lengths below tail, and those from tail to tail + ring - 1, at which some row has the point."""
-    pairs, table = numbered_points(sight)
+    things, _, table = placed_points(sight)
     lots, tail = _lots_by_length(table)
-    found = [length for length, lot in enumerate(lots) if point in [pairs[number][0] for number in lot]]
+    flags = [sight.placing.marked(placed) == point for placed in things]
+    found = [length for length, lot in enumerate(lots) if any([flags[number] for number in lot])]
     return (tuple([length for length in found if length < tail]), tuple([length for length in found if length >= tail]))
-
-
-def numbered_points(sight):
-    """The pairs of all points that rows have and their least rows, and for each the numbers of those signs lead to."""
-    pairs = sight.points()
-    numbers = {point: number for number, (point, row) in enumerate(pairs)}
-    return (pairs, [[numbers[sight.step(point, sign)] for sign in sight.signs] for point, row in pairs])
 
 
 def _lots_by_length(table):
@@ -148,8 +149,8 @@ def _lots_by_length(table):
 def told_apart(sight, row, other):
     """The first part at which two rows have unlike acts, and the first mark at which these differ, or None."""
     for at, part in enumerate(sight.parts):
-        one = act(part[0], _row_of_part(part, row))
-        another = act(part[0], _row_of_part(part, other))
+        one = act(part[0], row_of_part(part, row))
+        another = act(part[0], row_of_part(part, other))
         for mark, target, other_target in zip(part[0].marks, one, another):
             if target != other_target:
                 return (at, mark)

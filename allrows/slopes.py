@@ -3,7 +3,6 @@
 from math import gcd
 
 from allrows.deciding import true_at
-from allrows.heights import best_rows
 from allrows.papers import is_paper, made_paper
 from allrows.posts import LEVEL, Climb
 from allrows.sums import worth
@@ -37,10 +36,8 @@ def _greatest_mean(posts, mean):
 def slopes(total, saying, slope):
     """Some slope paper for a fraction, or None."""
     weighed = Weighed(total, saying)
-    climbs = {name: Climb(posts, posts.begins(), slope) for name, posts in weighed.posts.items()}
-    if any([climb.loop is not None for climb in climbs.values()]):
-        return None
-    return made_paper(weighed, climbs)
+    climbs = weighed.climbs(slope)
+    return made_paper(weighed, climbs) if weighed.loop_among(climbs) is None else None
 
 
 def slopes_hold(total, saying, slope, value):
@@ -51,14 +48,12 @@ def slopes_hold(total, saying, slope, value):
 def ring(total, saying):
     """Some ring that holds, or None."""
     weighed = Weighed(total, saying)
-    for name, posts in weighed.posts.items():
-        ways = Climb(posts, posts.begins(), LEVEL).loop
-        if ways is not None:
-            return _ring_of_ways(weighed, name, ways)
-    return None
+    loop = weighed.loop_among(weighed.climbs(LEVEL))
+    return None if loop is None else _ring_of_loop(weighed, loop)
 
 
-def _ring_of_ways(weighed, name, ways):
+def _ring_of_loop(weighed, loop):
+    name, ways = loop
     begin = ways[0][0]
     behind, end = weighed.posts[name].way_on(begin)
     met = [posts for posts, besides in weighed.choices if posts[name] == end][0]
@@ -102,9 +97,9 @@ def _is_row_of_name(value, name, signs):
 def _comes_round(weighing, name, ahead, middle, behind, rows):
     """Whether point and entering ahead of the middle of a row are those behind it."""
     scale = weighing.scales[name]
-    if scale.sight.point_of(ahead) != scale.sight.point_of(ahead + middle):
+    if scale.placing.placed_row(ahead) != scale.placing.placed_row(ahead + middle):
         return False
-    points = {own: weighing.scales[own].sight.point_of(row) for own, row in rows.items()}
+    points = {own: weighing.scales[own].placing.placed_row(row) for own, row in rows.items()}
     entering = weighing.entered(points)[0].get(name, ())
     for sign in behind[::-1]:
         entering = scale.came_of(entering, sign)
@@ -116,16 +111,17 @@ def _comes_round(weighing, name, ahead, middle, behind, rows):
 
 def rows_above(total, saying, bound):
     """Some rows that are met and have a worth above the bound, or None."""
-    told = ring(total, saying)
-    if told is None:
-        best = best_rows(total, saying)
-        return best if best is not None and worth(saying.house, total, dict(best)) > bound else None
-    name, ahead, middle, behind, others = told
+    weighed = Weighed(total, saying)
+    climbs = weighed.climbs(LEVEL)
+    loop = weighed.loop_among(climbs)
+    if loop is None:
+        greatest, choice = weighed.greatest(climbs, 1)
+        return None if choice is None or greatest <= bound else weighed.rows_of(climbs, choice)
+    name, ahead, middle, behind, others = _ring_of_loop(weighed, loop)
     rows = dict(others)
     rows[name] = ahead + middle + behind
     once = worth(saying.house, total, rows)
-    rows[name] = ahead + middle * 2 + behind
-    gained = worth(saying.house, total, rows) - once
+    gained = sum([way[2] for way in loop[1]])
     # each further middle gains as much
     further = max(0, (bound - once) // gained + 1)
     rows[name] = ahead + middle * (further + 1) + behind

@@ -9,6 +9,30 @@ def walked(signs, begin, lead):
     return _walked_until(signs, begin, lead, _never)
 
 
+def walked_table(signs, begin, lead):
+    """All things to which rows lead, their least rows, and for each the numbers of those to which the signs lead it.
+
+    Three lists, in the order of these rows; lead as of walked.
+    """
+    things = [begin]
+    rows = [""]
+    numbers = {begin: 0}
+    table = []
+    at = 0
+    while at < len(things):
+        targets = []
+        for place, sign in enumerate(signs):
+            following = lead(things[at], place)
+            if following not in numbers:
+                numbers[following] = len(things)
+                things.append(following)
+                rows.append(rows[at] + sign)
+            targets.append(numbers[following])
+        table.append(targets)
+        at += 1
+    return (things, rows, table)
+
+
 def least_way(signs, begin, lead, is_good):
     """The least row that leads from the beginning to something good, or None."""
     thing, row = _walked_until(signs, begin, lead, is_good)[-1]

@@ -3,12 +3,12 @@
 from allrows.choosing import all_choices
 from allrows.conditions import Condition, contrary, flags_of_marks
 from allrows.errors import NoName
-from allrows.hearing import heard_sights
+from allrows.hearing import heard_sights, points_of_sight
 from allrows.judging import judge_of
 from allrows.lots import check_signs
 from allrows.readers import table_of
 from allrows.sayings import Saying
-from allrows.sights import numbered_points
+from allrows.sights import placed_points
 from allrows.terms import Term
 from allrows.walks import walked
 
@@ -23,12 +23,12 @@ def some_where(saying, name):
     if name not in saying.names:
         raise NoName(name)
     sights = heard_sights(saying)
-    pairs, table = numbered_points(sights[name])
+    things, _, table = placed_points(sights[name])
     judge = judge_of(saying, sights)
     others = [own for own in saying.names if own != name]
-    choices = all_choices([sights[own].points() for own in others])
+    choices = all_choices([points_of_sight(sights[own]) for own in others])
     good = []
-    for number, (point, _) in enumerate(pairs):
+    for number, point in enumerate(things):
         if _holds_somewhere(judge, {name: point}, others, choices):
             good.append(number)
     return Condition(saying.house.signs, table, good)
