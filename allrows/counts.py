@@ -34,23 +34,24 @@ class Count:
     def led(self, mark, row):
         """The mark to which a row leads a mark, and what is added on the way."""
         last = self.reader.led(mark, row)
+        number = self.reader.number_of(mark)
         amount = 0
         for sign in row:
-            amount += self.adds[self.reader.number_of(mark)][self.reader.signs.index(sign)]
-            mark = self.reader.led(mark, sign)
+            amount += self._columns[sign][number]
+            number = self.reader.numbers_led(sign)[number]
         return (last, amount)
 
     def ways_led(self, row):
         """For each mark, in order, the number of the one to which a row leads it, and what is added on the way."""
-        if row == "":
-            return (self.reader.numbers_led(""), [0 for _ in self.ends])
-        numbers = self.reader.numbers_led(row[0])
-        amounts = list(self._columns[row[0]])
-        for sign in row[1:]:
+        if len(row) == 1:
+            return (self.reader.numbers_led(row), self._columns[row])
+        numbers = self.reader.numbers_led("")
+        amounts = tuple([0 for _ in numbers])
+        for sign in row:
             column = self._columns[sign]
             targets = self.reader.numbers_led(sign)
-            amounts = [amount + column[number] for amount, number in zip(amounts, numbers)]
-            numbers = [targets[number] for number in numbers]
+            amounts = tuple([amount + column[number] for amount, number in zip(amounts, numbers)])
+            numbers = tuple([targets[number] for number in numbers])
         return (numbers, amounts)
 
     def of(self, row):

@@ -2,7 +2,8 @@
 
 from allrows.choosing import all_choices
 from allrows.sayings import inner_sayings, readings_of
-from allrows.sights import Sight, placed_points
+from allrows.placing import walked_points
+from allrows.sights import Sight
 
 
 def heard_parts(saying, name):
@@ -49,7 +50,7 @@ def points_of_sight(sight):
     """The list of pairs of a placed point and its least row, also if there is no sight."""
     if sight is None:
         return [((), "")]
-    things, rows, _ = placed_points(sight)
+    things, rows, _ = walked_points(sight.placing)
     return list(zip(things, rows))
 
 

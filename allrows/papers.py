@@ -1,7 +1,6 @@
 """Papers: tables of posts with heights, for each name of a sum and a saying."""
 
 from allrows.choosing import all_choices
-from allrows.readers import is_mark
 from allrows.sights import is_point
 from allrows.values import is_integer, is_tuple_of
 
@@ -11,11 +10,12 @@ def made_paper(weighed, climbs):
     told = []
     for name, scale in weighed.scales.items():
         gains = climbs[name].gains
+        numbers = weighed.posts[name].numbers
         enterings = [(entering, _marked_entering(scale, entering)) for entering in scale.enterings()]
         table = []
         for number, placed in enumerate(scale.listed):
             point = scale.placing.marked(placed)
-            table.extend([(point, marks, gains.get((number, entering))) for entering, marks in enterings])
+            table.extend([(point, marks, gains.get(numbers.get((number, entering)))) for entering, marks in enterings])
         told.append((name, tuple(table)))
     return tuple(told)
 
@@ -32,105 +32,98 @@ def is_paper(weighing, value, slope, bound):
     for scale, pair in zip(weighing.scales.values(), value):
         if not is_tuple_of(pair, 2) or pair[0] != scale.name:
             return False
-        if not _is_table(scale, pair[1]):
+        table = _placed_table(scale, pair[1])
+        if table is None or not _is_closed(scale, table, slope):
             return False
-        tables[scale.name] = _placed_table(scale, pair[1])
-        # each post stands there once at most
-        if len(tables[scale.name]) < len(pair[1]) or not _is_closed(scale, tables[scale.name], slope):
-            return False
+        tables[scale.name] = table
     return _are_choices_bound(weighing, tables, bound)
 
 
-def _is_table(scale, value):
-    """Whether any value is a tuple of triples of a point, an entering, and an integer or None."""
+def _placed_table(scale, value):
+    """The heights of a table, by placed points and the places of enterings; None if a value is no table."""
     if not isinstance(value, tuple):
-        return False
+        return None
+    marks = scale.placing.marks
+    places = [{marks[place]: place for place in range(begin, end)} for begin, end in scale.spans]
+    table = {}
     looked_at = []
+    point = ()
     for triple in value:
-        if not is_tuple_of(triple, 3) or not _is_entering(scale, triple[1]):
-            return False
-        if triple[2] is not None and not is_integer(triple[2]):
-            return False
+        if not is_tuple_of(triple, 3) or (triple[2] is not None and not is_integer(triple[2])):
+            return None
         # triples with one point mostly stand together: it is looked at once
         if looked_at != [triple[0]]:
-            if not is_point(scale.sight, triple[0]):
-                return False
+            if not is_point(scale.placing.parts, triple[0]):
+                return None
             looked_at = [triple[0]]
-    return True
+            point = scale.placing.placed(triple[0])
+        entering = _placed_entering(places, triple[1])
+        # each post stands there once at most
+        if entering is None or (point, entering) in table:
+            return None
+        table[(point, entering)] = triple[2]
+    return table
 
 
-def _is_entering(scale, value):
-    if not is_tuple_of(value, len(scale.occurrences)):
-        return False
-    return all([is_mark(one.part[0], mark) for one, mark in zip(scale.occurrences, value)])
-
-
-def _placed_table(scale, table):
-    """The heights of a table, by placed points and the places of enterings."""
-    points = {}
-    heights = {}
-    for point, entering, height in table:
-        if point not in points:
-            points[point] = scale.placing.placed(point)
-        places = [
-            begin + one.part[0].number_of(mark)
-            for (begin, _), one, mark in zip(scale.spans, scale.occurrences, entering)
-        ]
-        heights[(points[point], tuple(places))] = height
-    return heights
+def _placed_entering(places, value):
+    """The places of an entering, None if a value is none; places has for each occurrence those of its marks."""
+    if not is_tuple_of(value, len(places)):
+        return None
+    entering = []
+    for place_of, mark in zip(places, value):
+        if not isinstance(mark, str) or mark not in place_of:
+            return None
+        entering.append(place_of[mark])
+    return tuple(entering)
 
 
 def _is_closed(scale, table, slope):
-    at_begin = [height for (point, _), height in table.items() if point == scale.placing.at_first]
-    many = 1
-    for begin, end in scale.spans:
-        many *= end - begin
-    # each post stands there once at most, so this many are all
-    if len(at_begin) != many or not all([height is None or height >= 0 for height in at_begin]):
+    """Whether a table has the empty row's posts, and with each post all to which it leads, high enough."""
+    begin = scale.placing.at_first
+    if not all([_is_at_least(table, (begin, entering), 0) for entering in scale.enterings()]):
         return False
     targets = {}
     laters = {}
-    for point, entering in table:
+    for (point, entering), height in table.items():
         if point not in targets:
-            targets[point] = [scale.placing.step(point, at) for at in range(len(scale.sight.signs))]
+            targets[point] = [scale.placing.step(point, at) for at in range(len(scale.signs))]
         if entering not in laters:
-            laters[entering] = [scale.enterings_behind(entering, sign) for sign in scale.sight.signs]
-        for sign, target, later in zip(scale.sight.signs, targets[point], laters[entering]):
-            if not _is_kept(scale, table, slope, (point, entering), sign, [(target, one) for one in later]):
-                return False
+            laters[entering] = [scale.enterings_behind(entering, sign) for sign in scale.signs]
+        for sign, target, behind in zip(scale.signs, targets[point], laters[entering]):
+            for later in behind:
+                least = None
+                if height is not None:
+                    least = height + scale.gained_by(point, later, sign) * slope[1] - slope[0]
+                if not _is_at_least(table, (target, later), least):
+                    return False
     return True
 
 
-def _is_kept(scale, table, slope, post, sign, targets):
-    """Whether all posts to which a post leads by a sign are in the table, and high enough."""
+def _is_at_least(table, post, least):
+    """Whether a post is in a table, with None, or with at least this height; None is above all heights."""
+    if post not in table:
+        return False
     height = table[post]
-    for target in targets:
-        if target not in table:
-            return False
-        reached = table[target]
-        if reached is None:
-            continue
-        step = scale.gained_by(post[0], target[1], sign) * slope[1] - slope[0]
-        if height is None or reached < height + step:
-            return False
-    return True
+    return height is None or (least is not None and height >= least)
 
 
 def _are_choices_bound(weighing, tables, bound):
     """Whether for all choices that are met, and whose posts are in the tables, the heights are within the bound."""
     listed = {name: _points_of_table(table) for name, table in tables.items()}
-    heard = {name: weighing.scales[name].heard_points(listed[name]) for name in weighing.saying.names}
-    met = weighing.met_others(heard)
-    greatest = {shared: _greatest_of_others(weighing, tables, told) for shared, told in met.items()}
+    all_others = all_choices([listed[name] for name in weighing.others])
+    greatest = {}
     for choice in all_choices([listed[name] for name in weighing.added]):
         points = dict(zip(weighing.added, choice))
-        shared = weighing.heard_of(points)
-        if shared not in met:
+        met = weighing.met_others(points, all_others)
+        if not met:
             continue
         entering, besides = weighing.entered(points)
-        posts = {name: (point, entering[name]) for name, point in points.items()}
+        posts = {name: (point, tuple(entering[name])) for name, point in points.items()}
         if not all([post in tables[name] for name, post in posts.items()]):
             continue
+        shared = weighing.heard_of(points)
+        if shared not in greatest:
+            greatest[shared] = _greatest_of_others(weighing, tables, met)
         heights = [tables[name][post] for name, post in posts.items()] + [greatest[shared]]
         if None in heights or (bound is not None and sum(heights) + besides > bound):
             return False

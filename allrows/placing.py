@@ -5,10 +5,14 @@ place the one to which a row leads it.
 """
 
 
+from allrows.walks import walked_table
+
+
 class Placing:
     """The places of the parts of a sight, and where signs lead them."""
 
     def __init__(self, signs, parts):
+        self.signs = signs
         self.parts = parts
         self.marks = []
         # for each part the pair of its first place and the first one behind it
@@ -25,13 +29,11 @@ class Placing:
 
         For a part that goes backwards the sign is read ahead of the row.
         """
-        entered = []
-        followed = []
+        entered = list(self.at_first)
+        followed = list(self.at_first)
         for (begin, end), part in zip(self.spans, self.parts):
-            led = _led_places(begin, part, sign)
-            same = list(range(begin, end))
-            entered.extend(led if part[2] else same)
-            followed.extend(same if part[2] else led)
+            places = entered if part[2] else followed
+            places[begin:end] = _led_places(begin, part, sign)
         return (entered, followed)
 
     def step(self, placed, at):
@@ -58,6 +60,18 @@ class Placing:
     def begin_of(self, part):
         """The first place of a part."""
         return self.spans[self.parts.index(part)][0]
+
+
+def walked_points(placing):
+    """The lists of all placed points that rows have, of their least rows, and of the numbers of those signs lead to."""
+
+    steps = placing.steps
+
+    def lead(placed, at):
+        entered, followed = steps[at]
+        return tuple([followed[placed[place]] for place in entered])
+
+    return walked_table(placing.signs, placing.at_first, lead)
 
 
 def _led_places(begin, part, row):

@@ -6,7 +6,7 @@ from allrows.judging import judge_of
 from allrows.naming import new_names
 from allrows.readers import Reader
 from allrows.sayings import Saying, inner_sayings, is_atom, is_quantified, peeled
-from allrows.sights import placed_points
+from allrows.placing import walked_points
 from allrows.terms import Term
 
 
@@ -74,7 +74,7 @@ def _told_by_points(part, house, names):
     """A saying of the points of the free names at which a part with a quantifier holds."""
     sights = heard_sights(part)
     judge = judge_of(part, sights)
-    placed = [placed_points(sight)[0] for sight in sights.values()]
+    placed = [walked_points(sight.placing)[0] for sight in sights.values()]
     truths = [judge.holds_at(dict(zip(sights, choice))) for choice in all_choices(placed)]
     seen = [
         (name, sight, [sight.placing.marked(point) for point in points])

@@ -52,13 +52,13 @@ class Reader:
 
     def numbers_led(self, row):
         """For each mark, in order, the number of the one to which a row leads it."""
-        if row == "":
-            return list(range(len(self.marks)))
-        numbers = list(self._columns[row[0]])
-        for sign in row[1:]:
+        if len(row) == 1:
+            return self._columns[row]
+        numbers = list(range(len(self.marks)))
+        for sign in row:
             column = self._columns[sign]
             numbers = [column[number] for number in numbers]
-        return numbers
+        return tuple(numbers)
 
     def __eq__(self, other):
         return (
@@ -87,8 +87,8 @@ def table_of(reader):
 
 
 def columns_of(signs, table):
-    """For each sign the list of what the rows of a table have at its place."""
-    return {sign: [things[at] for things in table] for at, sign in enumerate(signs)}
+    """For each sign the tuple of what the rows of a table have at its place."""
+    return {sign: tuple([things[at] for things in table]) for at, sign in enumerate(signs)}
 
 
 def reached(reader):

@@ -3,11 +3,11 @@
 from allrows.acts import act, act_then, first_act
 from allrows.changes import Change
 from allrows.errors import InvalidSight
-from allrows.placing import Placing, row_of_part
+from allrows.placing import Placing, row_of_part, walked_points
 from allrows.readers import Reader, is_mark
 from allrows.tables import ways_by_length
 from allrows.values import is_sequence, is_signs, is_tuple_of
-from allrows.walks import least_way, walked_table
+from allrows.walks import least_way
 
 
 class Sight:
@@ -40,7 +40,7 @@ class Sight:
 
     def points(self):
         """All points that rows have, each with its least row."""
-        things, rows, _ = placed_points(self)
+        things, rows, _ = walked_points(self.placing)
         return tuple([(self.placing.marked(placed), row) for placed, row in zip(things, rows)])
 
     def __len__(self):
@@ -65,35 +65,25 @@ def _put_together(part, one, other):
     return act_then(part[0], one, other)
 
 
-def placed_points(sight):
-    """The lists of all placed points that rows have, of their least rows, and of the numbers of those signs lead to."""
-    return walked_table(sight.signs, sight.placing.at_first, _point_lead(sight))
-
-
-def _point_lead(sight):
+def row_with(sight, point):
+    """The least row with a point, None if no row has it."""
+    if not is_point(sight.parts, point):
+        return None
     placing = sight.placing
+    asked = placing.placed(point)
 
     def lead(placed, at):
         return placing.step(placed, at)
 
-    return lead
-
-
-def row_with(sight, point):
-    """The least row with a point, None if no row has it."""
-    if not is_point(sight, point):
-        return None
-    asked = sight.placing.placed(point)
-
     def is_asked(placed):
         return placed == asked
 
-    return least_way(sight.signs, sight.placing.at_first, _point_lead(sight), is_asked)
+    return least_way(sight.signs, placing.at_first, lead, is_asked)
 
 
 def lot_closed(sight, value):
     """Whether any value is a tuple of points with the first one, and with each one those of all signs."""
-    if not isinstance(value, tuple) or not all([is_point(sight, point) for point in value]):
+    if not isinstance(value, tuple) or not all([is_point(sight.parts, point) for point in value]):
         return False
     placing = sight.placing
     told = {placing.placed(point): True for point in value}
@@ -102,10 +92,11 @@ def lot_closed(sight, value):
     return all([placing.step(placed, at) in told for placed in told for at in range(len(sight.signs))])
 
 
-def is_point(sight, value):
-    if not is_tuple_of(value, len(sight)):
+def is_point(parts, value):
+    """Whether any value has an act of the reader for each of these parts."""
+    if not is_tuple_of(value, len(parts)):
         return False
-    return all([_is_act(part[0], one) for part, one in zip(sight.parts, value)])
+    return all([_is_act(part[0], one) for part, one in zip(parts, value)])
 
 
 def _is_act(reader, value):
@@ -114,20 +105,20 @@ def _is_act(reader, value):
 
 def many(sight, point, length):
     """How many rows of this length have a point."""
-    things, _, table = placed_points(sight)
+    things, _, table = walked_points(sight.placing)
     flags = [sight.placing.marked(placed) == point for placed in things]
     return ways_by_length(table, flags, length)[length][0]
 
 
 def rounds(sight):
     """The least numbers (tail, ring) with which rows of tail + ring signs have the points of those of tail signs."""
-    lots, tail = _lots_by_length(placed_points(sight)[2])
+    lots, tail = _lots_by_length(walked_points(sight.placing)[2])
     return (tail, len(lots) - tail)
 
 
 def lengths(sight, point):
     """The lengths below tail, and those from tail to tail + ring - 1, at which some row has the point."""
-    things, _, table = placed_points(sight)
+    things, _, table = walked_points(sight.placing)
     lots, tail = _lots_by_length(table)
     flags = [sight.placing.marked(placed) == point for placed in things]
     found = [length for length, lot in enumerate(lots) if any([flags[number] for number in lot])]

@@ -2,7 +2,6 @@
 
 from math import gcd
 
-from allrows.deciding import true_at
 from allrows.papers import is_paper, made_paper
 from allrows.posts import LEVEL, Climb
 from allrows.sums import worth
@@ -21,15 +20,16 @@ def rate(total, saying):
 
 def _greatest_mean(posts, mean):
     """The greatest mean of the steps of a ring, or the told one, if this is not less."""
-    steps = [way[2] for ways_in in posts.incoming.values() for way in ways_in]
+    steps = [way[2] for ways in posts.outgoing for way in ways]
+    numbers = list(range(len(posts.listed)))
     # with a slope below all steps each ring climbs
     slope = (min(steps, default=0) - 1, 1) if mean is None else mean
-    ways = Climb(posts, list(posts.incoming), slope).loop
-    while ways is not None:
-        gained = sum([way[2] for way in ways])
-        shared = gcd(gained, len(ways))
-        mean = (gained // shared, len(ways) // shared)
-        ways = Climb(posts, list(posts.incoming), mean).loop
+    loop = Climb(posts.outgoing, numbers, slope).loop
+    while loop is not None:
+        gained = sum([way[2] for way in loop])
+        shared = gcd(gained, len(loop))
+        mean = (gained // shared, len(loop) // shared)
+        loop = Climb(posts.outgoing, numbers, mean).loop
     return mean
 
 
@@ -56,10 +56,10 @@ def _ring_of_loop(weighed, loop):
     name, ways = loop
     begin = ways[0][0]
     behind, end = weighed.posts[name].way_on(begin)
-    met = [posts for posts, besides in weighed.choices if posts[name] == end][0]
-    others = [(own, weighed.scales[own].least_rows[post[0]]) for own, post in met.items() if own != name]
+    met = [numbers for numbers, besides in weighed.choices if numbers[name] == end][0]
+    others = [(own, weighed.least_row(own, number)) for own, number in met.items() if own != name]
     middle = "".join([sign for source, sign, step in ways])
-    return (name, weighed.scales[name].least_rows[begin[0]], middle, behind, tuple(sorted(others)))
+    return (name, weighed.least_row(name, begin), middle, behind, tuple(sorted(others)))
 
 
 def ring_holds(total, saying, value):
@@ -70,11 +70,30 @@ def ring_holds(total, saying, value):
     name, ahead, middle, behind, others = value
     rows = dict(others)
     rows[name] = ahead + middle + behind
-    if not true_at(saying, rows) or not _comes_round(weighing, name, ahead, middle, behind, rows):
+    points = {own: scale.placing.placed_row(rows[own]) for own, scale in weighing.scales.items()}
+    scale = weighing.scales[name]
+    begin = scale.placing.placed_row(ahead)
+    if not weighing.is_met(points) or scale.placing.placed_row(ahead + middle) != begin:
         return False
-    once = worth(saying.house, total, rows)
-    rows[name] = ahead + middle + middle + behind
-    return worth(saying.house, total, rows) > once
+    entering = tuple(weighing.entered(points)[0].get(name, []))
+    for sign in behind[::-1]:
+        entering = scale.came_of(entering, sign)
+    # if the middle comes round, this is what each further one adds to the worth
+    came, gained = _gone_through(scale, begin, middle, entering)
+    return came == entering and gained > 0
+
+
+def _gone_through(scale, point, row, entering):
+    """The entering that comes of one by a row behind a point, and what the row gains there."""
+    points = []
+    for sign in row:
+        points.append(point)
+        point = scale.placing.step(point, scale.signs.index(sign))
+    gained = 0
+    for ahead, sign in reversed(list(zip(points, row))):
+        gained += scale.gained_by(ahead, entering, sign)
+        entering = scale.came_of(entering, sign)
+    return (entering, gained)
 
 
 def _is_ring(weighing, value):
@@ -92,21 +111,6 @@ def _is_ring(weighing, value):
 
 def _is_row_of_name(value, name, signs):
     return is_tuple_of(value, 2) and value[0] == name and is_row(value[1], signs)
-
-
-def _comes_round(weighing, name, ahead, middle, behind, rows):
-    """Whether point and entering ahead of the middle of a row are those behind it."""
-    scale = weighing.scales[name]
-    if scale.placing.placed_row(ahead) != scale.placing.placed_row(ahead + middle):
-        return False
-    points = {own: weighing.scales[own].placing.placed_row(row) for own, row in rows.items()}
-    entering = weighing.entered(points)[0].get(name, ())
-    for sign in behind[::-1]:
-        entering = scale.came_of(entering, sign)
-    again = entering
-    for sign in middle[::-1]:
-        again = scale.came_of(again, sign)
-    return again == entering
 
 
 def rows_above(total, saying, bound):

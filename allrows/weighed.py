@@ -8,48 +8,58 @@ from allrows.weighing import Weighing
 class Weighed:
     """A sum and a saying, with all choices that are met (others of names that only the saying has left aside).
 
-    A choice is a pair: for each name a post, and what is added besides.
+    A choice is a pair: for each name the number of a post, and what is added besides.
     """
 
     def __init__(self, total, saying):
         self.weighing = Weighing(total, saying)
         self.scales = self.weighing.scales
-        met = self.weighing.met_others({name: self._heard_points(name) for name in saying.names})
-        self.choices = self._met_choices(met)
-        self.posts = {name: Posts(scale, self._ends(name, met)) for name, scale in self.scales.items()}
+        # for each name the numbers of the posts in choices that are met
+        self._end_numbers = {name: {} for name in self.scales}
+        self.choices = self._met_choices()
+        self._add_ends_of_others()
+        self.posts = {name: Posts(scale, list(self._end_numbers[name])) for name, scale in self.scales.items()}
 
-    def _heard_points(self, name):
-        return self.scales[name].heard_points(self.scales[name].listed)
+    def _number_of_end(self, name, post):
+        ends = self._end_numbers[name]
+        if post not in ends:
+            ends[post] = len(ends)
+        return ends[post]
 
-    def _met_choices(self, met):
+    def _number_of_other(self, name, point):
+        return self._number_of_end(name, (self.scales[name].listed.index(point), ()))
+
+    def _add_ends_of_others(self):
+        for told in self.weighing.met.values():
+            for others in told:
+                for name, point in zip(self.weighing.others, others):
+                    self._number_of_other(name, point)
+
+    def _met_choices(self):
         weighing = self.weighing
+        all_others = all_choices([self.scales[name].listed for name in weighing.others])
         choices = []
-        for numbers in all_choices([list(range(len(self.scales[name].listed))) for name in weighing.added]):
-            points = {name: self.scales[name].listed[number] for name, number in zip(weighing.added, numbers)}
-            heard = weighing.heard_of(points)
-            if heard not in met:
+        for numbered in all_choices([list(enumerate(self.scales[name].listed)) for name in weighing.added]):
+            points = {name: point for name, (number, point) in zip(weighing.added, numbered)}
+            met = weighing.met_others(points, all_others)
+            if not met:
                 continue
             entering, besides = weighing.entered(points)
-            posts = {name: (number, entering[name]) for name, number in zip(weighing.added, numbers)}
-            for name, point in zip(weighing.others, met[heard][0]):
-                posts[name] = self._post_of_other(name, point)
+            posts = {}
+            for name, (number, _) in zip(weighing.added, numbered):
+                posts[name] = self._number_of_end(name, (number, tuple(entering[name])))
+            for name, point in zip(weighing.others, met[0]):
+                posts[name] = self._number_of_other(name, point)
             choices.append((posts, besides))
         return choices
 
-    def _post_of_other(self, name, point):
-        return (self.scales[name].listed.index(point), ())
-
-    def _ends(self, name, met):
-        """The posts of a name in all choices that are met, each once."""
-        if name in self.weighing.added:
-            return list({posts[name]: True for posts, besides in self.choices})
-        at = self.weighing.others.index(name)
-        points = list({others[at]: True for told in met.values() for others in told})
-        return [self._post_of_other(name, point) for point in points]
+    def least_row(self, name, number):
+        """The least row with the point of a post."""
+        return self.scales[name].least_rows[self.posts[name].listed[number][0]]
 
     def climbs(self, slope):
         """For each name the greatest gains on ways from the empty row."""
-        return {name: Climb(posts, posts.begins(), slope) for name, posts in self.posts.items()}
+        return {name: Climb(posts.outgoing, posts.begins(), slope) for name, posts in self.posts.items()}
 
     def loop_among(self, climbs):
         """The pair of a name and the ways of a ring that climbs, or None."""
@@ -70,7 +80,7 @@ class Weighed:
         best = None
         found = None
         for choice in self.choices:
-            gained = sense * choice[1] + sum([climbs[name].gains[post] for name, post in choice[0].items()])
+            gained = sense * choice[1] + sum([climbs[name].gains[number] for name, number in choice[0].items()])
             if best is None or gained > best:
                 best = gained
                 found = choice[0]

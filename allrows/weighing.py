@@ -6,7 +6,7 @@ Points are placed ones, and the marks of enterings are told by the places of the
 from allrows.choosing import all_choices
 from allrows.hearing import heard_parts
 from allrows.judging import judge_of
-from allrows.sights import Sight, placed_points
+from allrows.placing import Placing, row_of_part, walked_points
 
 
 class Occurrence:
@@ -20,9 +20,7 @@ class Occurrence:
 
     def gains_of(self, sign):
         """For each mark what a sign of the name's row adds if this part of it is read from there."""
-        change = self.part[1]
-        word = sign if change is None else change.of(sign)
-        amounts = self.count.ways_led(word[::-1] if self.is_back else word)[1]
+        amounts = self.count.ways_led(row_of_part(self.part, sign))[1]
         return [self.factor * amount for amount in amounts]
 
 
@@ -32,33 +30,26 @@ class Scale:
     def __init__(self, name, parts, occurrences, signs):
         self.name = name
         self.occurrences = occurrences
-        self.sight = Sight(signs, [*parts, *[one.part for one in occurrences]])
-        self.placing = self.sight.placing
-        self.listed, self.least_rows, self.table = placed_points(self.sight)
+        self.signs = signs
+        self.placing = Placing(signs, [*parts, *[one.part for one in occurrences]])
+        self.listed, self.least_rows, table = walked_points(self.placing)
+        self.sources = _sources(table, signs)
         self.spans = self.placing.spans[len(parts):]
+        self.is_turned = any([one.is_back for one in occurrences])
         # the saying hears the places ahead of this one
         self.heard = self.spans[0][0] if occurrences else len(self.placing.marks)
-        self.gains = {sign: self._gains_of(sign) for sign in signs}
+        # for each sign what it adds at each place
+        self.gains = {sign: [0 for _ in range(self.heard)] for sign in signs}
+        for one in occurrences:
+            for sign, gains in self.gains.items():
+                gains.extend(one.gains_of(sign))
         # for each place of an entering the one of the entering that comes of it
         self.came_places = {sign: steps[0] for sign, steps in zip(signs, self.placing.steps)}
 
-    def _gains_of(self, sign):
-        """For each place what a sign adds there."""
-        gains = [0 for _ in range(self.heard)]
-        for one in self.occurrences:
-            gains.extend(one.gains_of(sign))
-        return gains
-
-    def heard_point(self, point):
-        """What the saying hears of a point."""
-        return point[:self.heard]
-
-    def heard_points(self, listed):
-        """What the saying hears of all these points, each once."""
-        return list({self.heard_point(point): True for point in listed})
-
     def came_of(self, entering, sign):
         """The entering that comes of this one if the sign at the end is left out."""
+        if not self.is_turned:
+            return entering
         came = self.came_places[sign]
         return tuple([came[place] for place in entering])
 
@@ -83,6 +74,15 @@ class Scale:
         return all_choices([list(range(begin, end)) for begin, end in self.spans])
 
 
+def _sources(table, signs):
+    """For each point the pairs of a point and a sign that lead to it."""
+    sources = [[] for _ in table]
+    for number, targets in enumerate(table):
+        for sign, target in zip(signs, targets):
+            sources[target].append((number, sign))
+    return sources
+
+
 class Weighing:
     """The scales of all names of a sum and a saying, ascending, and what is added besides the gains of names."""
 
@@ -98,9 +98,11 @@ class Weighing:
         self.added = [name for name in self.scales if name in names]
         self.shared = [name for name in saying.names if name in names]
         self.others = [name for name in saying.names if name not in names]
-        # a scale's sight has all parts with which the saying hears the name, and these ahead of all others
-        self._judge = judge_of(saying, {name: self.scales[name].sight for name in saying.names})
+        # a scale has the places of all parts with which the saying hears the name, and these ahead of all others
+        self._judge = judge_of(saying, self.scales)
         self._routes = self._all_routes()
+        # for what the saying hears the points of other names that are met with it
+        self.met = {}
 
     def _occurrences(self, name):
         found = []
@@ -129,28 +131,39 @@ class Weighing:
             routes.append((first, ways, [factor * amount for amount in count.ends]))
         return routes
 
-    def met_others(self, lists):
-        """Which points of the names that only the saying has go with points of those that the sum has, too.
+    def is_met(self, points):
+        """Whether the saying holds at points of all its names."""
+        return self._judge.holds_at(points)
 
-        The dict has, for each tuple of heard points of the shared names with which the saying holds, the list of
-        the tuples of points of the others. For each name of the saying a list of the points to try is given.
+    def met_others(self, points, choices):
+        """Of these choices of points of names that only the saying has those that are met with points of the others.
+
+        The choices are the same ones in all calls.
         """
-        met = {}
-        for shared in all_choices([lists[name] for name in self.shared]):
-            points = dict(zip(self.shared, shared))
-            for others in all_choices([lists[name] for name in self.others]):
-                points.update(dict(zip(self.others, others)))
-                if self._judge.holds_at(points):
-                    met.setdefault(shared, []).append(others)
-        return met
+        if not self.others:
+            return choices if self.is_met(points) else []
+        heard = self.heard_of(points)
+        if heard not in self.met:
+            self.met[heard] = self._searched_others(points, choices)
+        return self.met[heard]
+
+    def _searched_others(self, points, choices):
+        told = dict(points)
+        found = []
+        for others in choices:
+            for name, point in zip(self.others, others):
+                told[name] = point
+            if self.is_met(told):
+                found.append(others)
+        return found
 
     def heard_of(self, points):
-        """The tuple of the heard points of the shared names."""
-        return tuple([self.scales[name].heard_point(points[name]) for name in self.shared])
+        """What the saying hears of points of the names of the sum."""
+        return tuple([points[name][:self.scales[name].heard] for name in self.shared])
 
     def entered(self, points):
-        """For points of the names of the sum: the true entering of each one, and what is added besides."""
-        entering = {name: () for name in self.added}
+        """For points of the names of the sum: the list of places of each one's true entering; what is added besides."""
+        entering = {name: [] for name in self.added}
         besides = self._number
         for number, ways, ends in self._routes:
             for name, target, amounts in ways:
@@ -158,7 +171,7 @@ class Weighing:
                     besides += amounts[number]
                     number = target[number]
                 else:
-                    entering[name] += (target + number,)
+                    entering[name].append(target + number)
                     number = points[name][target + number] - target
             besides += ends[number]
         return (entering, besides)

@@ -8,7 +8,7 @@ from allrows.judging import judge_of
 from allrows.lots import check_signs
 from allrows.readers import table_of
 from allrows.sayings import Saying
-from allrows.sights import placed_points
+from allrows.placing import walked_points
 from allrows.terms import Term
 from allrows.walks import walked
 
@@ -23,7 +23,7 @@ def some_where(saying, name):
     if name not in saying.names:
         raise NoName(name)
     sights = heard_sights(saying)
-    things, _, table = placed_points(sights[name])
+    things, _, table = walked_points(sights[name].placing)
     judge = judge_of(saying, sights)
     others = [own for own in saying.names if own != name]
     choices = all_choices([points_of_sight(sights[own]) for own in others])
