@@ -215,6 +215,21 @@ class HeightsTest(Checks, unittest.TestCase):
             if not kept:
                 self.assertIs(heights_hold(total, saying, 0, (("row", ((table[0][0], table[0][1], value),) + table[1:]),)), False)
 
+    def test_further_rows_of_tables(self):
+        # a paper that holds, with one row more that is none, or stands there already
+        total, saying = summed("1 * peak(row) + -1 * peak(back row)"), said("last(row) is last(row)")
+        (name, table), = heights(total, saying, 3)
+        point, entering, height = table[-1]
+        for row in (table[-1], (point, entering, 99), [point, entering, height], (point, entering), (point, entering, height, 0), (point, entering[:1], height),
+                    (point, entering + entering, height), (point, list(entering), height), (point, ("no", "none"), height), (point, (0, "no"), height),
+                    (point, (["no"], "no"), height), (point, None, height), (point, (), height), (list(point), entering, height), (point[:1], entering, height),
+                    (point + point, entering, height), (None, entering, height), ((), entering, height), (point, entering, True), (point, entering, "0"),
+                    ((["no", "yes"],) + point[1:], entering, height), ((("no",),) + point[1:], entering, height)):
+            self.assertIs(heights_hold(total, saying, 3, (("row", table + (row,)),)), False, row)
+            self.assertIs(heights_hold(total, saying, 3, (("row", (row,) + table),)), False, row)
+        # in another order, and with a post that no row has, led to by none
+        self.assertIs(heights_hold(total, saying, 3, (("row", table[::-1]),)), True)
+
     def test_without_names(self):
         for bound in (2, 3, 4):
             self.check_same(heights(summed("3"), said("odds('a') is odd"), bound), () if bound >= 3 else None)

@@ -94,6 +94,14 @@ class RingTest(Checks, unittest.TestCase):
         for behind, told in (("ab", True), ("b", False), ("", False), ("aab", True), ("ba", False), ("cba", False), ("aba", True)):
             self.assertIs(ring_holds(total, saying, ("row", "c", "a", behind, ())), told)
             self.assertIs(is_ring(total, saying, ("row", "c", "a", behind, ())), told)
+        # a middle that adds, but behind which the row is entered at another mark
+        house = house.having("size", Count(reader, [[1, 0, 0], [0, 0, 0], [1, 0, 0]], [0, 0, 0]))
+        saying = Saying.parse(house, str(saying))
+        for behind, told in (("", False), ("a", False), ("aa", True)):
+            rows = [worth(house, total, {"row": "c" + "a" * many + behind}) for many in (1, 2, 3)]
+            self.assertIs(rows[1] > rows[0], behind != "")
+            self.assertIs(ring_holds(total, saying, ("row", "c", "a", behind, ())), told)
+            self.assertIs(is_ring(total, saying, ("row", "c", "a", behind, ())), told)
 
     def test_any_values(self):
         for value in any_values():
