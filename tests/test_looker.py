@@ -258,6 +258,13 @@ class FormsTest(Checks, unittest.TestCase):
                           (2, "( if odds(xx + xx) is even then odds(xx + 'a' + xx + 'a') is even )"),
                           (1, "( odds(xx + xx) is even or odds(xx + 'a' + xx + 'a') is even )"), (2, "odds(xx + 'b' + xx + 'b') is even")):
             self.check_line(False, saying, ("grow", "xx", 0, (1, 2)), *[said(other) if number == at else line for number, line in enumerate(lines)])
+        # a name that is not free, with lines that would be those of it
+        for name in ("zz", "xx"):
+            saying = said("( odds(yy) is even and for all xx odds(xx + xx) is even )")
+            step = Saying(HOME, ("if", saying, saying))
+            self.check_line(False, saying, ("grow", name, 0, (1, 1)), saying, step)
+            self.check_line(False, saying, ("grow", name, 0, (1, 2)), saying, step, step)
+        saying, lines = self.grow_lines("odds(xx + xx) is even")
         # a name that is bound alone
         self.check_line(False, said("for all xx odds(xx + xx) is even"), ("grow", "xx", 0, (1, 2)), *lines)
         claim = bound("1 * size(row)", 3, "odds(row) is odd")
@@ -314,6 +321,8 @@ class FormsTest(Checks, unittest.TestCase):
         claim = bound("1 * size(row)", 3, both)
         self.check_line(False, claim, ("weaker", 0, 1), told, hall("( if odds(row) is odd then ( odds(row) is odd and ends(row) is yes ) )"))
         self.check_line(False, claim, ("weaker", 0, 1), told, hall("( odds(row) is odd or ( odds(row) is odd and ends(row) is yes ) )"))
+        for word in ("or", "and"):
+            self.check_line(False, claim, ("weaker", 0, 1), told, Saying(HALL, (word, hall(both), hall("odds(row) is odd"))))
         self.check_line(False, claim, ("weaker", 1, 0), told, step)
         self.check_line(False, claim, ("weaker", 0, 0), told, step)
         self.check_line(False, claim, ("weaker", 1, 1), told, step)

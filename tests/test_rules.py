@@ -207,7 +207,8 @@ class ChainTest(Checks, unittest.TestCase):
                       (["ab", (1, 0), True], ("aaa", (0, 0), False)), (("ab", [1, 0], True), ("aaa", (0, 0), False)),
                       (("ab", (1, 0), 1), ("aaa", (0, 0), False)), (("ab", (True, 0), True), ("aaa", (0, 0), False)),
                       (("ab", (1, False), True), ("aaa", (0, 0), False)), (("ab", (1, -1), True), ("aaa", (0, 0), False)),
-                      (("ab", (-2, 0), True), ("aaa", (0, 0), False)), (("ab", (1, 1), True), ("aaa", (0, 0), False)),
+                      (("ab", (-2, 0), True), ("aaa", (0, 0), False)), (("ab", (1, 0), True), ("aaa", (-3, 0), False)), (("ab", (-2, 0), True), ("aaa", (0, 0), False)),
+                      (("ab", (1, 1), True), ("aaa", (0, 0), False)),
                       (("ab", (9, 0), True), ("aaa", (0, 0), False)), (("ba", (0, 0), True), ("aaa", (0, 0), False)),
                       (("ab", (1, 0), True), ("aaa", (0, 0), False), ("ba", (0, 0), False)), (("ab", (1, 0), True),), (("ab", (1, 0)),),
                       (("ac", (1, 0), True), ("aaa", (0, 0), False)), (("ab", (1, 0, 0), True), ("aaa", (0, 0), False))):
