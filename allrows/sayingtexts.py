@@ -35,15 +35,21 @@ def _opened_at(text, at):
     """What a saying begins with at this place ahead of a saying within it, and the place behind, or None."""
     if text.startswith("not ", at):
         return (("not",), at + 4)
-    for word in ("all", "some"):
-        if text.startswith(f"for {word} ", at):
-            name, end = _name_at(text, at + len(word) + 5)
-            return ((word, name), _behind(text, end, " "))
+    if text.startswith("for all ", at):
+        return _quantifier_at(text, at + 8, "all")
+    if text.startswith("for some ", at):
+        return _quantifier_at(text, at + 9, "some")
     if text.startswith("( if ", at):
         return (("( if",), at + 5)
     if text.startswith("( ", at):
         return (("(",), at + 2)
     return None
+
+
+def _quantifier_at(text, at, word):
+    """A quantifier whose name stands at this place, and the place behind the blank that follows."""
+    name, end = _name_at(text, at)
+    return ((word, name), _behind(text, end, " "))
 
 
 def _closed_at(text, at, waiting, steps):
@@ -77,18 +83,12 @@ def _reading_at(signs, text, at):
     """The name of a reader, the term behind it in brackets, and the place behind."""
     name, at = _name_at(text, at)
     begin = _behind(text, at, "(")
-    end = begin
-    depth = 0
-    while end < len(text) and (depth > 0 or text[end] != ")"):
-        depth += _depth_of(text[end])
-        end += 1
-    return (name, _term_of_text(signs, text[begin:end]), _behind(text, end, ")"))
-
-
-def _depth_of(sign):
-    if sign == "(":
-        return 1
-    return -1 if sign == ")" else 0
+    end = text.find(")", begin)
+    while end >= 0 and text.count("(", begin, end) > text.count(")", begin, end):
+        end = text.find(")", end + 1)
+    if end < 0:
+        raise InvalidText(0)
+    return (name, _term_of_text(signs, text[begin:end]), end + 1)
 
 
 def _term_of_text(signs, text):

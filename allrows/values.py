@@ -1,5 +1,6 @@
 """What can be asked of any value: whether it is an integer, a row, a name and the like."""
 
+_LETTERS = "abcdefghijklmnopqrstuvwxyz"
 _NO_NAMES = ("back", "is", "not", "and", "or", "if", "then", "for", "all", "some")
 
 
@@ -18,7 +19,7 @@ def is_tuple_of(value, many):
 
 def is_letters(value):
     """Whether a value is a row of whatever signs."""
-    return isinstance(value, str) and all(["a" <= sign <= "z" for sign in value])
+    return is_row(value, _LETTERS)
 
 
 def is_signs(value):
@@ -28,7 +29,7 @@ def is_signs(value):
 
 
 def is_row(value, signs):
-    return isinstance(value, str) and all([sign in signs for sign in value])
+    return isinstance(value, str) and value.strip(signs) == ""
 
 
 def is_rows(value, signs):
@@ -37,7 +38,7 @@ def is_rows(value, signs):
 
 
 def is_name(value):
-    return is_letters(value) and 2 <= len(value) <= 6 and value not in _NO_NAMES
+    return isinstance(value, str) and 2 <= len(value) <= 6 and is_letters(value) and value not in _NO_NAMES
 
 
 def row_order(row):
