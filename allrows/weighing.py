@@ -38,13 +38,16 @@ class Scale:
         self.is_turned = any([one.is_back for one in occurrences])
         # the saying hears the places ahead of this one
         self.heard = self.spans[0][0] if occurrences else len(self.placing.marks)
-        # for each sign what it adds at each place
-        self.gains = {sign: [0 for _ in range(self.heard)] for sign in signs}
-        for one in occurrences:
-            for sign, gains in self.gains.items():
-                gains.extend(one.gains_of(sign))
+        self.gains = {sign: self._gains_of(sign) for sign in signs}
         # for each place of an entering the one of the entering that comes of it
         self.came_places = {sign: steps[0] for sign, steps in zip(signs, self.placing.steps)}
+
+    def _gains_of(self, sign):
+        """For each place what a sign adds there."""
+        gains = [0] * self.heard
+        for one in self.occurrences:
+            gains.extend(one.gains_of(sign))
+        return gains
 
     def came_of(self, entering, sign):
         """The entering that comes of this one if the sign at the end is left out."""
