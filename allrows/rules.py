@@ -149,6 +149,8 @@ def _plain_table(rules):
 
 def chain(rules, one, other):
     """Some chain of moves, done forth and back, from one row to another one, or None."""
+    if one == other:
+        return ()
     forth, end = rules.steps_down(one)
     back, other_end = rules.steps_down(other)
     if end != other_end:

@@ -214,6 +214,13 @@ class ChainTest(Checks, unittest.TestCase):
                       (("ac", (1, 0), True), ("aaa", (0, 0), False)), (("ab", (1, 0, 0), True), ("aaa", (0, 0), False))):
             self.assertIs(chain_holds(ODD, "ab", "ba", value), False)
 
+    def test_row_to_itself(self):
+        self.check_same(chain(Rules("abc", [("acba", ""), ("bbc", ""), ("ca", "")]), "ccccbbc", "ccccbbc"), ())
+        for rules in many_rules(63, 40):
+            for row in rows_to(rules.signs, 4):
+                self.check_same(chain(rules=rules, other=row, one=row), ())
+                self.assertIs(chain_holds(rules, row, row, ()), True)
+
     def test_any_values(self):
         for value in any_values():
             self.assertIs(chain_holds(rules=ODD, one="ab", other="ba", value=value), False)
