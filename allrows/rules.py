@@ -88,8 +88,9 @@ def overlaps(rules):
         for second, other_right in rules.pairs:
             for many in range(1, min(len(first), len(second))):
                 if first.endswith(second[:many]):
-                    rests = (right + second[many:], first[:-many] + other_right)
-                    found[(first + second[many:], *sorted(rests, key=row_order))] = True
+                    rests = sorted([right + second[many:], first[:-many] + other_right], key=row_order)
+                    triple = (first + second[many:], *rests)
+                    found[triple] = True
     return tuple(sorted([triple for triple in found if triple[1] != triple[2]]))
 
 

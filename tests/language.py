@@ -107,6 +107,8 @@ class Checker:
             self.breach("L6 or L7", node, type(node).__name__)
         if isinstance(node, ast.BinOp) and isinstance(node.op, ast.Pow) and not isinstance(node.right, ast.Constant):
             self.breach("L27", node, "a power")
+        if isinstance(node, ast.Subscript) and any(isinstance(one, ast.Starred) for one in ast.walk(node.slice)):
+            self.breach("L7", node, "a star in an index")
         if isinstance(node, ast.JoinedStr) and any(isinstance(one, ast.FormattedValue) and one.format_spec for one in node.values):
             self.breach("L7", node, "a format")
 

@@ -26,8 +26,11 @@ class LanguageTest(unittest.TestCase):
                      "def f(xs):\n    xs.items = 3\n", "def f():\n    raise f()\n", "from allrows.aa import _f\n", "from allrows.aa import f\n\n\ndef g(f):\n    return f\n",
                      "class A:\n    def __hash__(self):\n        return 1\n", "class A:\n    def __str__(self):\n        return self.told_text()\n",
                      "class A:\n    def __len__(self):\n        return 1 + 1\n", "class A:\n    def one(self):\n        return 1\n\n    def two(self):\n        return self.one\n",
-                     "def f(x):\n    return x.unheard_of\n", "class _A:\n    pass\n", "def f(x):\n    return f(x, x)\n", "def f(n):\n    return 2 ** n\n", "def f():\n    try:\n        f()\n    except ValueError:\n        pass\n"):
+                     "def f(x):\n    return x.unheard_of\n", "class _A:\n    pass\n", "def f(x):\n    return f(x, x)\n", "def f(n):\n    return 2 ** n\n", "def f():\n    try:\n        f()\n    except ValueError:\n        pass\n",
+                     "def f(x, xs):\n    x[(1, *xs)] = 2\n", "def f(x, xs):\n    return x[1, *xs]\n", "def f(x, xs):\n    return x[len([*xs]):]\n"):
             self.assertTrue(breaches({"bb.py": code}), code)
+        # the same without the star in the index
+        self.assertEqual([], breaches({"bb.py": "def f(x, xs):\n    key = (1, *xs)\n    x[key] = (*xs, x[0])\n"}))
         self.assertTrue(breaches({"aa.py": "from allrows.bb import x\n", "bb.py": "from allrows.aa import y\n"}))
 
 
